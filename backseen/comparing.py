@@ -113,15 +113,12 @@ def is_pair(value, many, many_other):
     return is_tuple_of(value, 2, 2) and is_state(value[0], many) and is_state(value[1], many_other)
 
 
-def holds_inside(machine, other, pair, listed):
+def holds_inside(machine, other, one, two, listed):
     """Tell whether what a pair of states asks for holds, where `listed` has all pairs of the evidence."""
-    one, two = pair
     if one in machine[2] and two not in other[2]:
         return False
-    return all(
-        target is None or (target, other_target) in listed
-        for target, other_target in zip(machine[1][one], other[1][two])
-    )
+    targets = list(zip(machine[1][one], other[1][two]))
+    return all(pair[0] is None or pair in listed for pair in targets)
 
 
 def are_inside_pairs(machine, other, value):
@@ -133,7 +130,7 @@ def are_inside_pairs(machine, other, value):
     listed = {pair: True for pair in value}
     if len(machine[1]) > 0 and (0, 0) not in listed:
         return False
-    return all(holds_inside(machine, other, pair, listed) for pair in listed)
+    return all(holds_inside(machine, other, one, two, listed) for one, two in listed)
 
 
 def accepts_inside(machine, other, value):

@@ -102,7 +102,7 @@ def index_of(machine, word):
 
 def is_endless(loops):
     """Tell whether some state leads back to itself."""
-    return any(loops.is_busy(state) for state in range(len(loops.rows)))
+    return any(len(inner) > 0 for inner in loops.inner)
 
 
 def longest_word(machine):
@@ -202,7 +202,7 @@ def busy_layers(machine, layers):
 
 
 def is_row_of_loops(machine, layers, row):
-    """Tell whether the words are a row of loops for the layers, if it has words for one loop or more."""
+    """Tell whether the words, as many as the layers ask for, are a row of loops for them."""
     state = state_after(machine, 0, row[0])
     layer = None
     for at in range(1, len(row), 2):
@@ -236,7 +236,7 @@ def is_double_loop(machine, words):
     if one == other or len(one) != len(other):
         return False
     state = state_after(machine, 0, x)
-    if state is None or state_after(machine, state, y) not in machine[2]:
+    if state_after(machine, state, y) not in machine[2]:
         return False
     return state_after(machine, state, one) == state and state_after(machine, state, other) == state
 

@@ -4,21 +4,18 @@ from backseen.errors import TooLarge
 from backseen.machines import MOST_STATES, limited
 from backseen.seen import Seen
 from backseen.tables import least_machine
-from backseen.words import MOST_LOOK, need_letters, need_look, need_sample, need_word
+from backseen.words import MOST_LOOK, need_sample, need_sample_and_look, need_word
 
 
 def is_must(letters, sample, k, word):
     """Tell whether the word must be in, seen the sample, at the look k."""
-    need_letters(letters)
-    need_sample(letters, sample)
-    need_look(k)
+    need_sample_and_look(letters, sample, k)
     need_word(letters, word)
     return Seen(letters, sample, k).has_word(word)
 
 
 def greatest_look(letters, sample, word):
     """Return the greatest look at which the word must be in, or None if it is free at the look 0."""
-    need_letters(letters)
     need_sample(letters, sample)
     need_word(letters, word)
     for k in range(MOST_LOOK, -1, -1):
@@ -29,9 +26,7 @@ def greatest_look(letters, sample, word):
 
 def classes(letters, sample, k):
     """Return the tuple of the classes of joined beginnings, in the order of the states of the seen machine."""
-    need_letters(letters)
-    need_sample(letters, sample)
-    need_look(k)
+    need_sample_and_look(letters, sample, k)
     seen = Seen(letters, sample, k)
     words = seen.tree.words
     return tuple([tuple([words[at] for at in seen.class_members(state)]) for state in range(len(seen.rows))])
@@ -39,9 +34,7 @@ def classes(letters, sample, k):
 
 def seen_machine(letters, sample, k):
     """Return the seen machine, as it is."""
-    need_letters(letters)
-    need_sample(letters, sample)
-    need_look(k)
+    need_sample_and_look(letters, sample, k)
     seen = Seen(letters, sample, k)
     if len(seen.rows) > MOST_STATES:
         raise TooLarge("looked")
@@ -56,7 +49,5 @@ def closure_of_seen(seen):
 
 def closure(letters, sample, k):
     """Return the least machine of the closure of the sample."""
-    need_letters(letters)
-    need_sample(letters, sample)
-    need_look(k)
+    need_sample_and_look(letters, sample, k)
     return closure_of_seen(Seen(letters, sample, k))

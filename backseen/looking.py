@@ -88,9 +88,8 @@ def letter_towards(machine, pair, pairs):
     """Return a letter that leads from the states of the pair to those of one of the pairs, and these, in this order."""
     letters, rows, _ = machine
     for letter, target, other_target in zip(letters, rows[pair[0]], rows[pair[1]]):
-        if target is not None and other_target is not None and target != other_target:
-            if in_order(target, other_target) in pairs:
-                return letter, (target, other_target)
+        if target is not None and other_target is not None and in_order(target, other_target) in pairs:
+            return letter, (target, other_target)
     return None
 
 

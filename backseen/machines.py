@@ -30,7 +30,7 @@ def are_ends(value, many):
     """Tell whether the value is an ascending tuple of different indexes of so many rows."""
     if not is_tuple_of(value, 0, many) or not all(is_state(end, many) for end in value):
         return False
-    return all(value[at] < value[at + 1] for at in range(len(value) - 1))
+    return all([value[at] < value[at + 1] for at in range(len(value) - 1)])
 
 
 def is_machine(value):
@@ -183,7 +183,6 @@ def tree_table(letters, words, sample):
 
 def tree_of(letters, sample):
     """Return the tree of the sample."""
-    need_letters(letters)
     need_sample(letters, sample)
     rows, ends = tree_table(letters, beginnings_of(sample), sample)
     return limited((letters, rows, ends))

@@ -1,8 +1,9 @@
 """Making a word that must be in from the words of a short sample, step by step.
 
-A *rest* is kept for each class of beginnings that are joined so far: a word such that each member with it behind is
-made. A class whose members are a prefix of nothing longer than the longest word of the sample keeps to this length,
-as its rest is never longer than what stands behind any of its members in some word of the sample.
+A *rest* is kept for each class of beginnings that are joined so far: each member of the class is made with the rest
+behind it. The rest is never longer than what stands behind any member in some word of the sample; so none of these
+words is longer than the longest word of the sample. As a rest only becomes shorter, or goes over to a larger class,
+each beginning is made with few rests behind it.
 """
 
 from backseen.joined import Groups
@@ -73,7 +74,7 @@ class RestMaker:
         """
         label = self.groups.label
         sizes = [(len(self.rests[label[at]]), -len(self.groups.members[label[at]])) for at in (first, second)]
-        # Of equal rests that of the larger class stays; so few words are made that are not needed later.
+        # Of equal rests that of the larger class stays.
         if sizes[1] < sizes[0]:
             first, second, one, other = second, first, other, one
         rest, old = self.rest_of_class(first), self.rest_of_class(second)

@@ -5,7 +5,7 @@ from backseen.joining import closure_of_seen
 from backseen.looking import keeps_property
 from backseen.machines import is_machine, is_taken
 from backseen.seen import Beginnings, Seen
-from backseen.words import is_tuple_of, need_letters, need_look, need_sample, need_word
+from backseen.words import is_tuple_of, need_sample_and_look, need_word
 
 MOST_ROWS = 2500
 
@@ -33,9 +33,7 @@ def way_of(seen, word, states):
 
 def paper_for(letters, sample, k, word):
     """Return evidence that the word must be in, or that it is free."""
-    need_letters(letters)
-    need_sample(letters, sample)
-    need_look(k)
+    need_sample_and_look(letters, sample, k)
     need_word(letters, word)
     seen = Seen(letters, sample, k)
     if seen.has_word(word):
@@ -45,9 +43,7 @@ def paper_for(letters, sample, k, word):
 
 def joins_for(letters, sample, k):
     """Return a paper of the joins, in which every row joins what the rows before it have not joined."""
-    need_letters(letters)
-    need_sample(letters, sample)
-    need_look(k)
+    need_sample_and_look(letters, sample, k)
     return rows_of_joins(Seen(letters, sample, k))
 
 
@@ -113,9 +109,7 @@ def is_free_paper(letters, sample, k, word, value):
 
 def accepts_paper(letters, sample, k, word, value):
     """Tell whether the value is evidence that the word must be in, or that it is free."""
-    need_letters(letters)
-    need_sample(letters, sample)
-    need_look(k)
+    need_sample_and_look(letters, sample, k)
     need_word(letters, word)
     if not is_tuple_of(value, 2, 3) or type(value[0]) != str:
         return False
@@ -126,9 +120,7 @@ def accepts_paper(letters, sample, k, word, value):
 
 def accepts_joins(letters, sample, k, value):
     """Tell whether the value is a paper of the joins."""
-    need_letters(letters)
-    need_sample(letters, sample)
-    need_look(k)
+    need_sample_and_look(letters, sample, k)
     tree = Beginnings(letters, sample, k)
     groups = groups_of_paper(tree, value)
     return groups is not None and are_complete(tree.table, groups)

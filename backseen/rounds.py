@@ -7,8 +7,8 @@ from backseen.seen import Seen
 from backseen.tables import letters_to_end
 from backseen.tallies import count_of_words
 from backseen.words import (
-    MOST_LISTED_LETTERS, alike, is_integer_within, is_tuple_of, lead, need_letters, need_look, need_short_sample,
-    need_word, word_place,
+    MOST_LISTED_LETTERS, alike, is_integer_within, is_tuple_of, lead, need_look, need_short_sample, need_word,
+    word_place,
 )
 
 MOST_ROUND_WORDS = 300
@@ -32,7 +32,7 @@ def words_of_closure(seen, most):
         raise TooLarge("words")
     many = letters_to_end(rows, seen.ends)
     found = []
-    led = [("", 0)] if len(rows) > 0 and many[0] <= most else []
+    led = [("", 0)] if len(rows) > 0 else []
     while len(led) > 0:
         found.extend([word for word, state in led if state in seen.end_members])
         # Only what can still come to an end in time is kept; so there are few words, however many letters there are.
@@ -80,7 +80,6 @@ def next_round(words, k, most):
 
 def rounds(letters, sample, k, most):
     """Return the ascending tuple of the words of all rounds."""
-    need_letters(letters)
     need_short_sample(letters, sample)
     need_look(k)
     need_most(sample, most)
@@ -101,7 +100,6 @@ def words_by_round(letters, sample, k, most):
 
 def rows_for(letters, sample, k, word):
     """Return evidence by rows for the word."""
-    need_letters(letters)
     need_short_sample(letters, sample)
     need_look(k)
     need_word(letters, word, MOST_LISTED_LETTERS)
@@ -144,7 +142,6 @@ def word_of_row(sample, words, k, row):
 
 def accepts_rows(letters, sample, k, word, value):
     """Tell whether the value is evidence by rows for the word."""
-    need_letters(letters)
     need_short_sample(letters, sample)
     need_look(k)
     need_word(letters, word, MOST_LISTED_LETTERS)

@@ -83,7 +83,7 @@ def letters_to_end(rows, ends):
 def trimmed(rows, ends, start):
     """Return the rows and ends that matter to the language, numbered by their first words; row 0 is the start."""
     to_end = letters_to_end(rows, ends)
-    if start is None or to_end[start] is None:
+    if start is None:
         return [], []
     order = [at for at in order_from(rows, start) if to_end[at] is not None]
     number = {at: new for new, at in enumerate(order)}

@@ -40,14 +40,14 @@ def word_place(word):
 
 def is_ascending(words):
     """Tell whether each of the words stands before the next one."""
-    return all(word_place(words[at]) < word_place(words[at + 1]) for at in range(len(words) - 1))
+    return all([word_place(words[at]) < word_place(words[at + 1]) for at in range(len(words) - 1)])
 
 
 def is_letters(value):
     """Tell whether the value is letters."""
     if type(value) != str or not 1 <= len(value) <= MOST_DIFFERENT_LETTERS:
         return False
-    return is_over(ALPHABET, value) and all(value[at] < value[at + 1] for at in range(len(value) - 1))
+    return is_over(ALPHABET, value) and all([value[at] < value[at + 1] for at in range(len(value) - 1)])
 
 
 def is_word(letters, value):
@@ -104,15 +104,21 @@ def need_word(letters, word, most=MOST_ASKED_LETTERS):
 
 
 def need_sample(letters, sample):
-    """Refuse what is not a sample over the letters."""
+    """Refuse what is not letters, and then what is not a sample over them."""
     if not is_sample(letters, sample):
         raise BadValue("sample")
 
 
 def need_short_sample(letters, sample):
-    """Refuse what is not a short sample over the letters."""
+    """Refuse what is not letters, and then what is not a short sample over them."""
     if not is_short_sample(letters, sample):
         raise BadValue("sample")
+
+
+def need_sample_and_look(letters, sample, k):
+    """Refuse what is not letters, a sample over them, and a look, the first one of these first."""
+    need_sample(letters, sample)
+    need_look(k)
 
 
 def need_plain_words(one, other):
@@ -186,6 +192,5 @@ def beginnings_of(words):
 
 def beginnings(letters, sample):
     """Return the ascending tuple of the beginnings of the sample."""
-    need_letters(letters)
     need_sample(letters, sample)
     return beginnings_of(sample)

@@ -200,6 +200,12 @@ class Inside(unittest.TestCase):
         self.assertIs(accepts_inside(EVEN, other, ("inside", pairs, ())), False)
         self.assertIs(accepts_inside(EVEN, other, ("outside", pairs)), False)
 
+    def test_point_34_the_first_item_is_one_of_two_words(self):
+        pairs = ((0, 0), (1, 0))
+        for name in ("inside", "outside", "out", "", "Inside", "must", None, 0, "a", ("inside",), ["inside"]):
+            self.assertIs(accepts_inside(EVEN, EVERY, (name, pairs)), name == "inside")
+            self.assertIs(accepts_inside(EVERY, EVEN, (name, "a")), name == "outside")
+
     def test_point_34_an_end_beside_no_end(self):
         other = ("ab", ((1, 1), (0, 0)), (0,))
         self.assertIs(accepts_inside(circle("ab", 2), other, ("inside", ((0, 0), (1, 1)))), True)

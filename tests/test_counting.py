@@ -176,6 +176,11 @@ class Loops(unittest.TestCase):
             else:
                 self.assertIsNone(longest_word(machine))
 
+    def test_point_171_longest_words_of_samples(self):
+        for sample in oracles.random_samples(171, 200, "abc", 6, 5) + [("b", "aaa"), ("ba", "bb", "aaa", "aab")]:
+            self.assertEqual(longest_word(tree_of("abc", sample)), sample[-1] if sample else None)
+            self.assertEqual(longest_word(least_of(tree_of("abc", sample))), sample[-1] if sample else None)
+
     def test_point_171_loop_of(self):
         for machine in SMALL:
             found = loop_of(machine)
@@ -298,7 +303,8 @@ class Growth(unittest.TestCase):
         self.assertIs(accepts_growth(NONE, ("narrow", (), ())), True)
         for value in (
             ("narrow", (), ("",)), ("narrow", (0,), ("",)), ("narrow", [], ()), ("narrow", (), []), ("narrow", ()),
-            ("wide", "", "a", "b", ""), ("wide", (), ()), ("narrow", (), (), ()), ("narrow", "", ()),
+            ("wide", "", "a", "b", ""), ("wide", "a", "a", "b", "a"), ("wide", (), ()), ("wide", "", "", "", ""),
+            ("narrow", (), (), ()), ("narrow", "", ()),
         ):
             self.assertIs(accepts_growth(NONE, value), False)
 
@@ -317,6 +323,7 @@ class Growth(unittest.TestCase):
             (("", "a", "b", "b", "a"), False), (("", "a", "b"), False), (("b", "b", ""), False), (("",), False),
             (("", "a", "b", "b"), False), (("", "a", "b", "b", "", ""), False), (("", "c", "b", "b", ""), False),
             (("", "a", "ba", "b", ""), False), (list(row), False), (("", "a", "b", "b", None), False), ((), False),
+            (("", "a", "b", "b", "", "b"), False), (("", "a", "b", "b", "b", "b", "b", "b"), False), (("", "a"), False),
             (("ba", "a", "b", "b", ""), False), (("", "a", "b", "b", "", "b", ""), False),
         ):
             self.assertIs(accepts_growth(LINES, ("narrow", (1, 0), changed)), told, changed)

@@ -79,11 +79,25 @@ class Joins(unittest.TestCase):
         for sample in SAMPLES[:12]:
             for k in (0, 1, 2):
                 paper = joins_for("ab", sample, k)
-                for at in (0, len(paper)):
+                for at in range(len(paper) + 1):
                     start = joined_by("ab", sample, k, paper[:at])
                     for row in all_rows("ab", sample):
                         good, _ = oracles.is_good_row("ab", sample, k, start, row)
                         self.assertIs(accepts_joins("ab", sample, k, paper[:at] + (row,) + paper[at:]), good, row)
+
+    def test_point_54_each_rule_by_its_own_name(self):
+        # Behind the first row a and ba are joined: (back) joins the empty word and b, and (on) does nothing with them.
+        rows = joins_for("abcd", TWO, 0)
+        for row, told in (
+            (("back", "", "b", "a"), True), (("on", "", "b", "a"), False), (("on", "a", "ba", "c"), False),
+            (("back", "a", "ba", "c"), False), (("ends", "", "b"), False), (("ends", "a", "bacd"), True),
+        ):
+            self.assertIs(accepts_joins("abcd", TWO, 0, (("ends", "a", "ba"), row) + rows), told, row)
+        sample = ("ab", "cb", "aba", "cba")
+        for row, told in ((("on", "ab", "cb", "a"), True), (("back", "ab", "cb", "a"), False)):
+            self.assertIs(accepts_joins("abc", sample, 1, (("ends", "ab", "cb"), row)), told)
+        for row in (("ends", "a"), ("on", "a"), ("back", "a"), ("on", "a", "a"), ("back", "a", "a"), ("ends",), ()):
+            self.assertIs(accepts_joins("abcd", TWO, 0, (row,) + rows), False)
 
     def test_point_54_and_58_rows_in_another_sequence(self):
         chance = random.Random(58)
@@ -193,6 +207,12 @@ class Papers(unittest.TestCase):
         self.assertIs(judge("must", rows, way + ("bacd",)), False)
         self.assertIs(judge("must", rows, way, ()), False)
         self.assertIs(judge("free", rows, way), False)
+        self.assertIs(judge("must", rows), False)
+        self.assertIs(judge("must", ()), False)
+        self.assertIs(judge("must"), False)
+        self.assertIs(judge(), False)
+        for name in ("open", "must not", "", "Must", None, 0, ("must",)):
+            self.assertIs(judge(name, rows, way), False)
         for at in range(len(way)):
             for changed in ("", "b", "a", "ba", "bac", "bacd", "ac", "bb", None, ("a",), 0):
                 value = ("must", rows, way[:at] + (changed,) + way[at + 1:])
@@ -232,6 +252,8 @@ class Papers(unittest.TestCase):
 
         self.assertIs(judge(circle("a", 2)), True)
         self.assertIs(judge(circle("a", 2), "aaaa"), False)
+        for name in ("open", "", "Free", None, 0, ("free",)):
+            self.assertIs(accepts_paper("a", sample, 0, "aaa", (name, circle("a", 2))), False)
         # Not least, and yet it has the property: behind b, what a leads to is doubled.
         machine = ("ab", ((1, 2), (None, 3), (None, None), (None, None)), (2, 3))
         self.assertFalse(is_least(machine))

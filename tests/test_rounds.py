@@ -85,6 +85,8 @@ class Rounds(unittest.TestCase):
         for most in (0, 1, 24):
             self.assertEqual(words_by_round("ab", (), 0, most), ((),))
             self.assertEqual(rounds("ab", (), 0, most), ())
+        for function in (rounds, words_by_round):
+            self.assertTrue(oddities.is_refused(function, ("ab", (), 0, -1), "most"))
 
     def test_point_63_most_at_its_edges(self):
         for sample in (("",), ("a",), ("b", "a" * 12), LINES):
@@ -112,6 +114,12 @@ class Rounds(unittest.TestCase):
             self.assertEqual(what_of(self, function, "ab", LINES, 1, 24), "words")
             self.assertEqual(what_of(self, function, "abcd", ("", "a", "b", "c", "d"), 0, 24), "words")
             self.assertEqual(what_of(self, function, "ab", ("", "a", "b"), 0, 8), "words")
+        # One word more, which is alike to none: 301 words.
+        more = ("", "a", "b", "c", "aa", "ab", "bb")
+        self.assertEqual(count_up_to(closure("abc", more, 1), 23), 301)
+        self.assertEqual(len(rounds("abc", more, 1, 22)), 277)
+        for function in (rounds, words_by_round):
+            self.assertEqual(what_of(self, function, "abc", more, 1, 23), "words")
         self.assertEqual(len(rounds("ab", ("", "a", "b"), 0, 7)), 255)
         self.assertEqual([len(words) for words in words_by_round("ab", ("", "a", "b"), 0, 7)], [3, 4, 24, 224])
 
@@ -190,6 +198,32 @@ class Rows(unittest.TestCase):
                 if is_must("ab", sample, k, word):
                     self.assertIs(accepts_rows("ab", sample, k, word, rows_for("ab", sample, k, word)), True)
 
+    def test_point_67_and_68_rests_in_the_closure_shorter_than_those_in_the_sample(self):
+        # Behind c stands cb in the sample, but c in the closure: cc brings back to the beginning.
+        for word in oracles.all_words("bc", 8):
+            if is_must("bc", ("", "b", "ccb"), 0, word):
+                rows = rows_for("bc", ("", "b", "ccb"), 0, word)
+                self.assertIs(plainly(("", "b", "ccb"), 0, word, rows), True)
+                self.assertIs(accepts_rows("bc", ("", "b", "ccb"), 0, word, rows), True)
+        for sample, k in (
+            (("", "b", "abab", "baabb"), 0), (("", "b", "aab", "bbb", "babab"), 0), (("b", "ba", "bbab", "bbba"), 1),
+            (("ba", "aba", "baa"), 0), (("ba", "baa", "aabba"), 0),
+        ):
+            for word in oracles.all_words("ab", 7):
+                if is_must("ab", sample, k, word):
+                    rows = rows_for("ab", sample, k, word)
+                    self.assertIs(accepts_rows("ab", sample, k, word, rows), True)
+        for sample in oracles.random_samples(67, 60, "abc", 4, 4):
+            for k in (0, 1):
+                for word in oracles.all_words("abc", 6)[::5]:
+                    if is_must("abc", sample, k, word):
+                        rows = rows_for("abc", sample, k, word)
+                        self.assertIs(accepts_rows("abc", sample, k, word, rows), True)
+
+    def test_point_68_a_word_of_the_sample_needs_one_row(self):
+        for word in ONE:
+            self.assertEqual(rows_for("abc", ONE, 1, word), (("seen", word),))
+
     def test_point_66_rows_by_whomever(self):
         for rows, told in (
             (ROWS, True),
@@ -212,6 +246,14 @@ class Rows(unittest.TestCase):
             (ROWS[:3] + (["by", 0, 1, 2, 2],), False),
             (ROWS[:3] + (("seen", "cba"),), False),
             (ROWS[:3] + (("seen", "cba", ""),), False),
+            ((("seen", "ab", ""),) + ROWS, False),
+            ((("seen",),) + ROWS, False),
+            (ROWS[:3] + (("seen", "ab", ""),) + ROWS[3:], False),
+            (ROWS[:3] + (("seen",),) + ROWS[3:], False),
+            (((),) + ROWS, False),
+            ((("by", "ab"),) + ROWS, False),
+            (ROWS[:3] + (("seen", "ab"),) * 2 + (("by", 0, 1, 2, 2),), True),
+            (ROWS[:3] + (("on", 0, 1, 2, 2),), False),
             (list(ROWS), False),
             ((), False),
         ):
