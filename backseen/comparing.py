@@ -19,17 +19,12 @@ def word_of_pairs(machine, other, start, is_wanted):
     A pair is a state of `machine` and one of `other`, or None for nowhere. What is wanted is told of two truths:
     whether the one state is an end, and whether the other one is.
     """
-    letters, rows, ends = machine
-    other_rows = other[1]
+    letters, _, ends = machine
     is_end = {end: True for end in ends}
     is_other_end = {end: True for end in other[2]}
 
     def following(pair):
-        one, two = pair
-        return [
-            (letter, (target_of(rows, one, at), target_of(other_rows, two, at)))
-            for at, letter in enumerate(letters)
-        ]
+        return list(zip(letters, targets_of_pair(machine, other, pair)))
 
     return first_word_to(start, following, lambda pair: is_wanted(pair[0] in is_end, pair[1] in is_other_end))
 
@@ -76,22 +71,35 @@ def outside_word(machine, other):
     return first_outside(machine, other)
 
 
-def pairs_led_to(machine, other):
-    """Return the pairs of states to which one word leads from (0, 0), in the order of the first such words.
+def are_both_there(pair):
+    """Tell whether both items of a pair are states."""
+    return None not in pair
 
-    It raises TooLarge("pairs") if there are more than 4000.
+
+def targets_of_pair(machine, other, pair):
+    """Return the list of the pairs to which the letters, in their order, lead from a pair."""
+    one, two = pair
+    rows, other_rows = machine[1], other[1]
+    return [(target_of(rows, one, at), target_of(other_rows, two, at)) for at in range(len(machine[0]))]
+
+
+def pairs_led_to(machine, other, counts):
+    """Return the pairs of states to which one word leads, in the order of the first such words.
+
+    `counts` tells which pairs count, as one item, None, or both may be no state. It raises TooLarge("pairs") if there
+    are more than 4000.
     """
     start = start_pair(machine, other)
-    if None in start:
+    if not counts(start):
         return []
     met = {start: True}
     pairs = [start]
     at = 0
     while at < len(pairs):
-        one, two = pairs[at]
+        here = pairs[at]
         at += 1
-        for target in zip(machine[1][one], other[1][two]):
-            if None not in target and target not in met:
+        for target in targets_of_pair(machine, other, here):
+            if counts(target) and target not in met:
                 met[target] = True
                 pairs.append(target)
         if len(pairs) > MOST_PAIRS:
@@ -105,7 +113,7 @@ def inside_paper(machine, other):
     word = first_outside(machine, other)
     if word is not None:
         return "outside", word
-    return "inside", tuple(pairs_led_to(machine, other))
+    return "inside", tuple(pairs_led_to(machine, other, are_both_there))
 
 
 def is_pair(value, many, many_other):
@@ -146,20 +154,26 @@ def accepts_inside(machine, other, value):
     return False
 
 
-def common_pairs_table(machine, other, pairs):
-    """Return the rows and the ends of the table whose rows are the pairs."""
+def are_both(one, other):
+    """Tell whether both of two truths hold."""
+    return one and other
+
+
+def least_of_pairs(machine, other, pairs, is_wanted):
+    """Return the least machine, of at most 400 states, of the table whose rows are the pairs, the first one its start.
+
+    A pair is an end if it is wanted: this is told of two truths, whether the one state is an end and the other one is.
+    """
     number = {pair: at for at, pair in enumerate(pairs)}
-    rows = [[number.get(target) for target in zip(machine[1][one], other[1][two])] for one, two in pairs]
+    rows = [[number.get(target) for target in targets_of_pair(machine, other, pair)] for pair in pairs]
     is_end = {end: True for end in machine[2]}
     is_other_end = {end: True for end in other[2]}
-    ends = [at for at, (one, two) in enumerate(pairs) if one in is_end and two in is_other_end]
-    return rows, ends
+    ends = [at for at, (one, two) in enumerate(pairs) if is_wanted(one in is_end, two in is_other_end)]
+    return limited(least_machine(machine[0], rows, ends, 0 if len(pairs) > 0 else None))
 
 
 def common(machine, other):
     """Return the least machine of the words that both machines take."""
     need_two_machines(machine, other)
     small, other_small = least(machine), least(other)
-    pairs = pairs_led_to(small, other_small)
-    rows, ends = common_pairs_table(small, other_small, pairs)
-    return limited(least_machine(machine[0], rows, ends, 0 if len(pairs) > 0 else None))
+    return least_of_pairs(small, other_small, pairs_led_to(small, other_small, are_both_there), are_both)

@@ -8,14 +8,19 @@ from backseen.words import lead
 
 
 class LedTable:
-    """A table of rows with ends, and with the leads of its rows at the look k."""
+    """A table of rows with ends, and with the leads of its rows at the look k.
 
-    def __init__(self, rows, ends, words, k):
+    The lead of a row is that of the word for it, which may be its lead already. `starts` has the pairs of rows that
+    are joined before any rule applies.
+    """
+
+    def __init__(self, rows, ends, words, k, starts=()):
         self.rows = rows
         self.ends = ends
         self.is_end = {end: True for end in ends}
         self.leads = [lead(word, k) for word in words]
         self.look = k
+        self.starts = starts
 
     def is_long(self, at):
         """Tell whether the lead of a row has all letters that the look asks for."""
@@ -77,6 +82,8 @@ class Joiner:
         self.behind = [{} for _ in table.rows]
         self.begin_with_edges()
         self.begin_with_ends()
+        # The last ones are applied first, so that nothing is logged that the starts have joined.
+        self.due.extend([("starts", one, other, None) for one, other in table.starts])
         while len(self.due) > 0:
             rule, one, other, letter = self.due.pop()
             self.apply(rule, one, other, letter)
@@ -118,7 +125,8 @@ class Joiner:
         stays, goes = self.groups.unite(first, second)
         if stays == goes:
             return
-        self.log.append((rule, one, other, letter))
+        if rule != "starts":
+            self.log.append((rule, one, other, letter))
         gone_ahead, gone_behind = self.ahead[goes], self.behind[goes]
         for key in gone_ahead:
             self.note_ahead(self.ahead[stays], key, gone_ahead[key])
@@ -145,12 +153,25 @@ def joined_by_row(table, groups, rule, one, other, letter):
 def groups_of_rows(table, rows):
     """Return what the rows of evidence have joined, or None if one of them is not good."""
     groups = Groups(len(table.rows))
+    for one, other in table.starts:
+        groups.unite(one, other)
     for rule, one, other, letter in rows:
         pair = joined_by_row(table, groups, rule, one, other, letter)
         if pair is None:
             return None
         groups.unite(pair[0], pair[1])
     return groups
+
+
+def is_led_way(table, groups, letters, word, numbers):
+    """Tell whether the rows with these numbers are a way of the word by what the groups have joined."""
+    if not groups.are_joined(numbers[0], 0) or numbers[-1] not in table.is_end:
+        return False
+    for at, letter in enumerate(word):
+        target = table.rows[numbers[at]][letters.index(letter)]
+        if target is None or not groups.are_joined(target, numbers[at + 1]):
+            return False
+    return True
 
 
 def are_complete(table, groups):

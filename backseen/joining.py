@@ -3,7 +3,6 @@
 from backseen.errors import TooLarge
 from backseen.machines import MOST_STATES, limited
 from backseen.seen import Seen
-from backseen.tables import least_machine
 from backseen.words import MOST_LOOK, need_sample, need_sample_and_look, need_word
 
 
@@ -38,16 +37,10 @@ def seen_machine(letters, sample, k):
     seen = Seen(letters, sample, k)
     if len(seen.rows) > MOST_STATES:
         raise TooLarge("looked")
-    return letters, tuple([tuple(row) for row in seen.rows]), tuple(seen.ends)
-
-
-def closure_of_seen(seen):
-    """Return the least machine of the closure."""
-    start = 0 if len(seen.rows) > 0 else None
-    return limited(least_machine(seen.tree.letters, seen.rows, seen.ends, start))
+    return seen.as_machine()
 
 
 def closure(letters, sample, k):
     """Return the least machine of the closure of the sample."""
     need_sample_and_look(letters, sample, k)
-    return closure_of_seen(Seen(letters, sample, k))
+    return limited(Seen(letters, sample, k).as_least())

@@ -118,11 +118,8 @@ def shared_rest(machine, clash):
     return None
 
 
-def five_against(machine, k):
-    """Return five words against the look k, or None if the language of the machine is of look k."""
-    need_machine(machine)
-    need_look(k)
-    small = least(machine)
+def five_words(small, k):
+    """Return five words against the look k for a least machine, or None if its language is of look k."""
     pairs_at = pairs_by_letters(small, k)
     if len(pairs_at[k]) == 0:
         return None
@@ -136,15 +133,32 @@ def five_against(machine, k):
     return x, y, middle, shared_rest(small, clash), z
 
 
+def five_against(machine, k):
+    """Return five words against the look k, or None if the language of the machine is of look k."""
+    need_machine(machine)
+    need_look(k)
+    return five_words(least(machine), k)
+
+
+def are_asked_words(letters, value, many):
+    """Tell whether the value is a tuple of so many words over the letters, each of at most 500 letters."""
+    if not is_tuple_of(value, many, many):
+        return False
+    return all(is_over(letters, word) and len(word) <= MOST_ASKED_LETTERS for word in value)
+
+
+def are_five(letters, k, value, is_in):
+    """Tell whether the value is five words against the look k, where `is_in` tells which words are in the language."""
+    if not are_asked_words(letters, value, 5):
+        return False
+    x, y, v, w, z = value
+    if len(v) != k or is_in(y + v + z):
+        return False
+    return is_in(x + v + w) and is_in(y + v + w) and is_in(x + v + z)
+
+
 def accepts_five(machine, k, value):
     """Tell whether the value is five words against the look k."""
     need_machine(machine)
     need_look(k)
-    if not is_tuple_of(value, 5, 5):
-        return False
-    if not all(is_over(machine[0], word) and len(word) <= MOST_ASKED_LETTERS for word in value):
-        return False
-    x, y, v, w, z = value
-    if len(v) != k or is_taken(machine, y + v + z):
-        return False
-    return is_taken(machine, x + v + w) and is_taken(machine, y + v + w) and is_taken(machine, x + v + z)
+    return are_five(machine[0], k, value, lambda word: is_taken(machine, word))

@@ -1,9 +1,8 @@
 """Evidence that a word must be in or is free, and evidence for all joins of beginnings."""
 
-from backseen.joined import are_complete, groups_of_rows
-from backseen.joining import closure_of_seen
+from backseen.joined import are_complete, groups_of_rows, is_led_way
 from backseen.looking import keeps_property
-from backseen.machines import is_machine, is_taken
+from backseen.machines import is_machine, is_taken, limited
 from backseen.seen import Beginnings, Seen
 from backseen.words import is_tuple_of, need_sample_and_look, need_word
 
@@ -25,10 +24,7 @@ def rows_of_joins(seen):
 
 def way_of(seen, word, states):
     """Return the way of a word that must be in, whose states in the seen machine are these."""
-    letters = seen.tree.letters
-    numbers = [seen.ways[state][letters.index(letter)] for state, letter in zip(states, word)]
-    numbers.append(seen.end_members[states[-1]])
-    return tuple([seen.tree.words[at] for at in numbers])
+    return tuple([seen.tree.words[at] for at in seen.way_along(word, states)])
 
 
 def paper_for(letters, sample, k, word):
@@ -38,7 +34,7 @@ def paper_for(letters, sample, k, word):
     seen = Seen(letters, sample, k)
     if seen.has_word(word):
         return "must", rows_of_joins(seen), way_of(seen, word, seen.states_along(word))
-    return "free", closure_of_seen(seen)
+    return "free", limited(seen.as_least())
 
 
 def joins_for(letters, sample, k):
@@ -79,14 +75,7 @@ def is_way(tree, groups, word, value):
         return False
     if not all(type(item) == str and item in tree.number for item in value):
         return False
-    numbers = [tree.number[item] for item in value]
-    if not groups.are_joined(numbers[0], 0) or numbers[-1] not in tree.table.is_end:
-        return False
-    for at, letter in enumerate(word):
-        target = tree.table.rows[numbers[at]][tree.letters.index(letter)]
-        if target is None or not groups.are_joined(target, numbers[at + 1]):
-            return False
-    return True
+    return is_led_way(tree.table, groups, tree.letters, word, [tree.number[item] for item in value])
 
 
 def is_must_paper(tree, word, value):

@@ -84,13 +84,16 @@ def check_wrong(case, function, names, right, wrong):
                 arguments[later] = right[later]
 
 
-def check_judge(case, judge, more=()):
+NAMES = ("must", "free", "inside", "outside", "narrow", "wide", "seen", "by", "on", "ends", "back")
+
+
+def check_judge(case, judge, more=(), names=NAMES):
     """Try a judge with values of any kind: each time it answers False, and never raises anything.
 
-    `judge` has the value as its only parameter; `more` are further values that are no evidence.
+    `judge` has the value as its only parameter; `more` are further values that are no evidence; `names` are words
+    with which evidence may begin.
     """
     values = oddities() + [None, 0, 1, 12, "", "a", "ab", (), ("a",)] + list(more)
-    names = ("must", "free", "inside", "outside", "narrow", "wide", "seen", "by", "on", "ends", "back")
     for value in values:
         case.assertIs(judge(value), False)
         case.assertIs(judge((value,)), False)
@@ -124,6 +127,10 @@ MACHINES = [
     ("ab", ((1, 0), (0, 1)), (1, 0)),
 ]
 OTHERS = MACHINES + [("a", ((0,),), (0,)), ("abc", ((0, 0, 0),), (0,)), ("ac", ((0, 0),), (0,)), ("a", (), ())]
+MACHINE_TUPLES = (
+    [(machine,) for machine in MACHINES] + [(("ab", ((0, 0),), (0,)), machine) for machine in OTHERS]
+    + [(), [("ab", ((0, 0),), (0,))], (("ab", ((0, 0),), (0,)),) * 3, ("ab", ((0, 0),), (0,)), (("a", (), ()),) * 4]
+)
 EVEN = ("ab", ((1, 0), (0, 1)), (0,))
 EVERY = ("ab", ((0, 0),), (0,))
 NONE = ("ab", (), ())

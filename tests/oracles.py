@@ -204,3 +204,107 @@ def join(joined, u, v):
         else:
             others.append(group)
     return others + [mine]
+
+
+def looked_states(least, k):
+    """The looked states of a least machine, and the first words that lead to them, found word by word."""
+    found = {}
+    words = [""] if least[1] else []
+    while words:
+        fresh = []
+        for word in words:
+            pair = (state_behind(least, word), lead(word, k))
+            if pair[0] is not None and pair not in found:
+                found[pair] = word
+                fresh.append(word)
+        words = [word + letter for word in fresh for letter in least[0]]
+    return found
+
+
+class Wholes:
+    """The looked states of least machines, one machine after another, and what the rules join of them."""
+
+    def __init__(self, leasts, k):
+        self.letters, self.k = leasts[0][0], k
+        self.leads, self.to, self.ends, starts = [], {}, set(), []
+        for least in leasts:
+            pairs = looked_states(least, k)
+            number = {pair: len(self.leads) + at for at, pair in enumerate(pairs)}
+            starts.extend([number[pair] for pair in pairs if pair == (0, "")])
+            for (state, word), at in number.items():
+                self.leads.append(word)
+                if state in least[2]:
+                    self.ends.add(at)
+                for letter, target in zip(least[0], least[1][state]):
+                    if target is not None:
+                        self.to[at, letter] = number[target, lead(word + letter, k)]
+        self.numbers = range(len(self.leads))
+        self.starts = [set(starts)] if starts else []
+
+    def alike(self, s, t):
+        return len(self.leads[s]) == self.k and self.leads[s] == self.leads[t]
+
+    def is_good(self, joined, row):
+        """Whether a row is good, and what it joins, where `joined` is a list of sets of joined numbers."""
+
+        def together(s, t):
+            return s == t or any(s in group and t in group for group in joined)
+
+        rule, s, t = row[:3]
+        if rule == "ends":
+            return s in self.ends and t in self.ends and self.alike(s, t), (s, t)
+        targets = self.to.get((s, row[3])), self.to.get((t, row[3]))
+        if None in targets:
+            return False, None
+        if rule == "on":
+            return together(s, t), targets
+        return together(*targets) and self.alike(s, t), (s, t)
+
+    def all_rows(self):
+        for s, t in itertools.product(self.numbers, repeat=2):
+            yield ("ends", s, t)
+            for letter in self.letters:
+                yield ("on", s, t, letter)
+                yield ("back", s, t, letter)
+
+    def joined_by(self, rows):
+        """What good rows join, or None if one of them is not good."""
+        joined = list(self.starts)
+        for row in rows:
+            good, pair = self.is_good(joined, row)
+            if not good:
+                return None
+            joined = join(joined, *pair)
+        return joined
+
+    def classes(self):
+        """The classes as a set of sets of numbers, by the rules as they are told."""
+        joined = list(self.starts)
+        while True:
+            before = {frozenset(group) for group in joined}
+            for row in self.all_rows():
+                good, pair = self.is_good(joined, row)
+                if good:
+                    joined = join(joined, *pair)
+            if {frozenset(group) for group in joined} == before:
+                break
+        return self.with_single(joined)
+
+    def with_single(self, joined):
+        groups = {at: frozenset((at,)) for at in self.numbers}
+        for group in joined:
+            for at in group:
+                groups[at] = frozenset(group)
+        return set(groups.values())
+
+    def is_way(self, joined, word, way):
+        def together(s, t):
+            return s == t or any(s in group and t in group for group in joined)
+
+        if len(way) != len(word) + 1 or any(at not in self.numbers for at in way):
+            return False
+        for at, letter in enumerate(word):
+            target = self.to.get((way[at], letter))
+            if target is None or not together(target, way[at + 1]):
+                return False
+        return together(way[0], 0) and way[-1] in self.ends

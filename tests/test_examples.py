@@ -12,7 +12,10 @@ class Examples(unittest.TestCase):
         names = sorted(os.listdir(FOLDER))
         self.assertEqual(
             names,
-            [f"{name}.txt" for name in "comparing counting errors looking papers rounds words".split()],
+            [
+                f"{name}.txt"
+                for name in "building comparing counting errors looking papers rounds single windows words".split()
+            ],
         )
         for name in names:
             failed, tried = doctest.testfile(os.path.join(FOLDER, name), module_relative=False)

@@ -31,6 +31,12 @@ INTERFACE = {
     "joining": "is_must greatest_look classes seen_machine closure",
     "papers": "paper_for accepts_paper joins_for accepts_joins",
     "rounds": "rounds words_by_round rows_for accepts_rows",
+    "looked": "looked_states looked_machine",
+    "wholes": "closure_of together whole_classes whole_paper accepts_whole whole_joins accepts_whole_joins first_added",
+    "building": "union_of complement_of union_paper complement_paper accepts_union accepts_complement",
+    "windows": "window_table window_machine is_in_windows window_paper accepts_window first_free_in_windows windows_of"
+               " is_windowed windowed_against accepts_windowed",
+    "single": "least_look look_evidence accepts_look",
     "counting": "count_at count_up_to nth_word count_before index_of longest_word loop_of is_narrow growth_degree"
                 " growth_evidence accepts_growth",
 }
@@ -222,6 +228,18 @@ class Interface(unittest.TestCase):
             "five_against": "machine k", "seen_machine": "letters sample k", "closure": "letters sample k",
             "longest_word": "machine", "loop_of": "machine", "is_narrow": "machine", "growth_degree": "machine",
             "growth_evidence": "machine",
+            "looked_states": "machine k", "looked_machine": "machine k", "closure_of": "machine k",
+            "together": "machine other k", "whole_classes": "machines k", "whole_paper": "machines k word",
+            "accepts_whole": "machines k word value", "whole_joins": "machines k",
+            "accepts_whole_joins": "machines k value", "first_added": "machine k", "union_of": "machine other",
+            "complement_of": "machine", "union_paper": "machine other k", "complement_paper": "machine k",
+            "accepts_union": "machine other k value", "accepts_complement": "machine k value",
+            "window_table": "letters sample k", "window_machine": "letters sample k",
+            "is_in_windows": "letters sample k word", "window_paper": "letters sample k word",
+            "accepts_window": "letters sample k word value", "first_free_in_windows": "letters sample k",
+            "windows_of": "machine k", "is_windowed": "machine k", "windowed_against": "machine k",
+            "accepts_windowed": "machine k value", "least_look": "machine", "look_evidence": "machine",
+            "accepts_look": "machine value",
         }
         names = {name for module, names in INTERFACE.items() if module != "errors" for name in names.split()}
         self.assertEqual(set(told), names)

@@ -3,12 +3,16 @@
 import random
 import unittest
 
-from backseen import comparing, counting, joining, looking, machines, papers, rounds, words
+from backseen import (
+    building, comparing, counting, joining, looked, looking, machines, papers, rounds, single, wholes, windows, words,
+)
 import oracles
 from oddities import EVEN, EVERY, NONE
 
 SIX = ("ab", ((0, 1), (None, 2), (3, 2), (1, 0)), (0, 1))
 SAMPLE = ("ab", "aba", "bbab")
+TWO = ("ab", ((1, None), (2, None), (None, 3), (None, None)), (1, 3))
+NO_LOOK = ("ab", ((1, 2), (None, 1), (3, 2), (None, None)), (1, 2, 3))
 ROWS = (("ends", "ab", "bbab"),)
 CALLS = [
     (words.is_letters, "ab"), (words.is_word, "ab", "c"), (words.is_look, 1), (words.is_sample, "ab", ("a",)),
@@ -34,6 +38,21 @@ CALLS = [
     (counting.longest_word, SIX), (counting.longest_word, NONE), (counting.loop_of, SIX), (counting.is_narrow, SIX),
     (counting.growth_degree, NONE), (counting.growth_evidence, SIX), (counting.growth_evidence, NONE),
     (counting.accepts_growth, EVEN, ("wide", "", "bb", "aa", "")),
+    (looked.looked_states, EVEN, 2), (looked.looked_machine, EVEN, 2), (wholes.closure_of, TWO, 0),
+    (wholes.together, TWO, EVEN, 1), (wholes.whole_classes, (TWO, EVEN), 0), (wholes.whole_paper, (TWO,), 0, "aabab"),
+    (wholes.whole_paper, (TWO,), 0, "b"), (wholes.accepts_whole, (TWO,), 1, "aabab", ("free", TWO)),
+    (wholes.whole_joins, (TWO, EVEN), 0), (wholes.accepts_whole_joins, (TWO,), 0, (("ends", 1, 3),)),
+    (wholes.first_added, TWO, 0), (wholes.first_added, TWO, 1), (building.union_of, TWO, EVEN),
+    (building.complement_of, TWO), (building.union_paper, TWO, EVEN, 0), (building.union_paper, EVERY, EVEN, 0),
+    (building.complement_paper, TWO, 1), (building.complement_paper, EVERY, 1),
+    (building.accepts_union, EVERY, EVEN, 0, ("kept", EVERY)), (building.accepts_complement, EVERY, 0, ("kept", NONE)),
+    (windows.window_table, "ab", SAMPLE, 1), (windows.window_machine, "ab", SAMPLE, 1),
+    (windows.is_in_windows, "ab", SAMPLE, 1, "abab"), (windows.window_paper, "ab", SAMPLE, 1, "abab"),
+    (windows.window_paper, "ab", SAMPLE, 1, "aa"), (windows.accepts_window, "ab", SAMPLE, 1, "aa", ("out", 0)),
+    (windows.first_free_in_windows, "ab", SAMPLE, 1), (windows.windows_of, TWO, 1), (windows.is_windowed, TWO, 1),
+    (windows.windowed_against, EVEN, 3), (windows.windowed_against, EVERY, 3),
+    (windows.accepts_windowed, EVEN, 0, ("", "a", "", "", "a")), (single.least_look, SIX), (single.least_look, NO_LOOK),
+    (single.look_evidence, SIX), (single.look_evidence, NO_LOOK), (single.accepts_look, EVEN, ("look", 0, ())),
 ]
 
 
@@ -46,7 +65,7 @@ def is_plain(value):
 class Plain(unittest.TestCase):
     def test_point_2_plain_values_and_no_changed_arguments(self):
         names = {call[0].__name__ for call in CALLS}
-        self.assertEqual(len(names), 9 + 9 + 5 + 6 + 5 + 4 + 4 + 11)
+        self.assertEqual(len(names), 9 + 9 + 5 + 6 + 5 + 4 + 4 + 11 + 2 + 8 + 6 + 10 + 3)
         for function, *arguments in CALLS:
             before = repr(arguments)
             self.assertTrue(is_plain(function(*arguments)), function.__name__)
