@@ -27,14 +27,17 @@ def way_of(seen, word, states):
     return tuple([seen.tree.words[at] for at in seen.way_along(word, states)])
 
 
+def must_evidence(seen, word):
+    """Return evidence that a word of the closure must be in."""
+    return "must", rows_of_joins(seen), way_of(seen, word, seen.states_along(word))
+
+
 def paper_for(letters, sample, k, word):
     """Return evidence that the word must be in, or that it is free."""
     need_sample_and_look(letters, sample, k)
     need_word(letters, word)
     seen = Seen(letters, sample, k)
-    if seen.has_word(word):
-        return "must", rows_of_joins(seen), way_of(seen, word, seen.states_along(word))
-    return "free", limited(seen.as_least())
+    return must_evidence(seen, word) if seen.has_word(word) else ("free", limited(seen.as_least()))
 
 
 def joins_for(letters, sample, k):
@@ -78,22 +81,19 @@ def is_way(tree, groups, word, value):
     return is_led_way(tree.table, groups, tree.letters, word, [tree.number[item] for item in value])
 
 
-def is_must_paper(tree, word, value):
-    """Tell whether the value is evidence that the word must be in."""
-    if not is_tuple_of(value, 3, 3):
-        return False
-    groups = groups_of_paper(tree, value[1])
-    return groups is not None and is_way(tree, groups, word, value[2])
+def is_must_paper(tree, word, rows, way):
+    """Tell whether the rows and the way are evidence that the word must be in."""
+    groups = groups_of_paper(tree, rows)
+    return groups is not None and is_way(tree, groups, word, way)
 
 
-def is_free_paper(letters, sample, k, word, value):
-    """Tell whether the value is evidence that the word is free."""
-    if not is_tuple_of(value, 2, 2) or not is_machine(value[1]):
+def is_fitting(letters, sample, outside, k, value):
+    """Tell whether the value is a machine with the property at k that takes the words of the sample, none outside."""
+    if not is_machine(value) or value[0] != letters:
         return False
-    machine = value[1]
-    if machine[0] != letters or is_taken(machine, word) or not all(is_taken(machine, seen) for seen in sample):
+    if not all(is_taken(value, word) for word in sample) or any(is_taken(value, word) for word in outside):
         return False
-    return keeps_property(machine, k)
+    return keeps_property(value, k)
 
 
 def accepts_paper(letters, sample, k, word, value):
@@ -102,9 +102,9 @@ def accepts_paper(letters, sample, k, word, value):
     need_word(letters, word)
     if not is_tuple_of(value, 2, 3) or type(value[0]) != str:
         return False
-    if value[0] == "must":
-        return is_must_paper(Beginnings(letters, sample, k), word, value)
-    return value[0] == "free" and is_free_paper(letters, sample, k, word, value)
+    if value[0] == "must" and len(value) == 3:
+        return is_must_paper(Beginnings(letters, sample, k), word, value[1], value[2])
+    return value[0] == "free" and len(value) == 2 and is_fitting(letters, sample, (word,), k, value[1])
 
 
 def accepts_joins(letters, sample, k, value):

@@ -14,7 +14,10 @@ class Examples(unittest.TestCase):
             names,
             [
                 f"{name}.txt"
-                for name in "building comparing counting errors looking papers rounds single windows words".split()
+                for name in (
+                    "building cases comparing counting errors looking papers rounds sides single telling towers undecided"
+                    " windows words"
+                ).split()
             ],
         )
         for name in names:

@@ -37,6 +37,12 @@ INTERFACE = {
     "windows": "window_table window_machine is_in_windows window_paper accepts_window first_free_in_windows windows_of"
                " is_windowed windowed_against accepts_windowed",
     "single": "least_look look_evidence accepts_look",
+    "sides": "are_apart apart_paper accepts_apart verdict verdict_paper accepts_verdict least_apart least_apart_paper"
+             " accepts_least_apart least_apart_from",
+    "towers": "tower tower_paper accepts_tower",
+    "cases": "case_of changed",
+    "undecided": "is_any_undecided first_undecided count_undecided undecided_paper accepts_undecided",
+    "telling": "telling_number first_sample tells thinned is_needed needed_words needed_paper accepts_needed",
     "counting": "count_at count_up_to nth_word count_before index_of longest_word loop_of is_narrow growth_degree"
                 " growth_evidence accepts_growth",
 }
@@ -239,7 +245,20 @@ class Interface(unittest.TestCase):
             "accepts_window": "letters sample k word value", "first_free_in_windows": "letters sample k",
             "windows_of": "machine k", "is_windowed": "machine k", "windowed_against": "machine k",
             "accepts_windowed": "machine k value", "least_look": "machine", "look_evidence": "machine",
-            "accepts_look": "machine value",
+            "accepts_look": "machine value", "are_apart": "letters sample outside k",
+            "apart_paper": "letters sample outside k", "accepts_apart": "letters sample outside k value",
+            "verdict": "letters sample outside k word", "verdict_paper": "letters sample outside k word",
+            "accepts_verdict": "letters sample outside k word value", "least_apart": "letters sample outside",
+            "least_apart_paper": "letters sample outside", "accepts_least_apart": "letters sample outside value",
+            "least_apart_from": "machine outside", "tower": "letters sample outside word",
+            "tower_paper": "letters sample outside word", "accepts_tower": "letters sample outside word value",
+            "case_of": "letters sample k word", "changed": "letters sample k word",
+            "is_any_undecided": "letters sample outside k", "first_undecided": "letters sample outside k",
+            "count_undecided": "letters sample outside k length", "undecided_paper": "letters sample outside k",
+            "accepts_undecided": "letters sample outside k value", "telling_number": "machine k",
+            "first_sample": "machine k", "tells": "machine k sample", "thinned": "machine k sample",
+            "is_needed": "machine k word", "needed_words": "machine k", "needed_paper": "machine k word",
+            "accepts_needed": "machine k word value",
         }
         names = {name for module, names in INTERFACE.items() if module != "errors" for name in names.split()}
         self.assertEqual(set(told), names)

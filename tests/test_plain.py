@@ -4,13 +4,15 @@ import random
 import unittest
 
 from backseen import (
-    building, comparing, counting, joining, looked, looking, machines, papers, rounds, single, wholes, windows, words,
+    building, cases, comparing, counting, joining, looked, looking, machines, papers, rounds, sides, single, telling,
+    towers, undecided, wholes, windows, words,
 )
 import oracles
 from oddities import EVEN, EVERY, NONE
 
 SIX = ("ab", ((0, 1), (None, 2), (3, 2), (1, 0)), (0, 1))
 SAMPLE = ("ab", "aba", "bbab")
+SIDES = ("ab", ("ab", "abb"), ("a", "ba"))
 TWO = ("ab", ((1, None), (2, None), (None, 3), (None, None)), (1, 3))
 NO_LOOK = ("ab", ((1, 2), (None, 1), (3, 2), (None, None)), (1, 2, 3))
 ROWS = (("ends", "ab", "bbab"),)
@@ -53,6 +55,23 @@ CALLS = [
     (windows.windowed_against, EVEN, 3), (windows.windowed_against, EVERY, 3),
     (windows.accepts_windowed, EVEN, 0, ("", "a", "", "", "a")), (single.least_look, SIX), (single.least_look, NO_LOOK),
     (single.look_evidence, SIX), (single.look_evidence, NO_LOOK), (single.accepts_look, EVEN, ("look", 0, ())),
+    (sides.are_apart, *SIDES, 1), (sides.apart_paper, *SIDES, 0), (sides.apart_paper, *SIDES, 1),
+    (sides.accepts_apart, *SIDES, 1, ("apart", NONE)), (sides.verdict, *SIDES, 1, "abbb"),
+    (sides.verdict_paper, *SIDES, 0, "abbb"), (sides.verdict_paper, *SIDES, 1, "abbb"),
+    (sides.verdict_paper, *SIDES, 1, "ba"), (sides.verdict_paper, *SIDES, 1, "aab"),
+    (sides.accepts_verdict, *SIDES, 1, "abbb", ("must", (("ends", "ab", "abb"),), ("", "a", "ab", "ab", "ab"))),
+    (sides.least_apart, *SIDES), (sides.least_apart, "ab", ("a",), ("a",)), (sides.least_apart_paper, *SIDES),
+    (sides.least_apart_paper, "ab", ("a",), ("a",)), (sides.accepts_least_apart, "ab", ("a",), ("a",), ("never", "a")),
+    (sides.least_apart_from, TWO, ("aabab",)), (towers.tower, *SIDES, "abbb"), (towers.tower_paper, *SIDES, "abbb"),
+    (towers.accepts_tower, "ab", ("a",), ("a",), "b", ("never", "a")), (cases.case_of, "ab", ("ab", "abb"), 1, "aab"),
+    (cases.changed, "ab", ("ab", "abb"), 1, "aab"), (undecided.is_any_undecided, *SIDES, 1),
+    (undecided.first_undecided, *SIDES, 1), (undecided.count_undecided, *SIDES, 1, 9),
+    (undecided.undecided_paper, *SIDES, 0), (undecided.undecided_paper, *SIDES, 1),
+    (undecided.undecided_paper, "a", ("", "aaaaa"), ("a",), 0),
+    (undecided.accepts_undecided, "ab", ("", "a", "b", "ab"), (), 0, ("none", ())), (telling.telling_number, EVEN, 0),
+    (telling.first_sample, EVEN, 0), (telling.tells, EVEN, 0, ("", "b")), (telling.thinned, EVERY, 0, ("", "a", "b", "ab")),
+    (telling.is_needed, EVEN, 0, "b"), (telling.needed_words, EVERY, 2), (telling.needed_paper, EVERY, 2, "a"),
+    (telling.needed_paper, EVERY, 0, "a"), (telling.accepts_needed, EVERY, 0, "a", ("needed", NONE)),
 ]
 
 
@@ -65,7 +84,7 @@ def is_plain(value):
 class Plain(unittest.TestCase):
     def test_point_2_plain_values_and_no_changed_arguments(self):
         names = {call[0].__name__ for call in CALLS}
-        self.assertEqual(len(names), 9 + 9 + 5 + 6 + 5 + 4 + 4 + 11 + 2 + 8 + 6 + 10 + 3)
+        self.assertEqual(len(names), 9 + 9 + 5 + 6 + 5 + 4 + 4 + 11 + 2 + 8 + 6 + 10 + 3 + 10 + 3 + 2 + 5 + 8)
         for function, *arguments in CALLS:
             before = repr(arguments)
             self.assertTrue(is_plain(function(*arguments)), function.__name__)
