@@ -28,13 +28,18 @@ class BlockedWords:
         self.ahead = counts_from_start(rows, length)
         self.behind = counts_by_length(rows, ends, length)
         self.known = {}
+        # What is left of each word that is out, behind the state from which it leads nowhere.
+        self.left = [self.grower.way_out(word) for word in openings.outside]
 
     def many_taken(self):
         """Return how many words are taken without any change."""
         return self.behind[self.length][0]
 
     def many_around(self, state, goal, length):
-        """Return how many ways there are to a state and on from the goal to an end, with so many letters in all."""
+        """Return how many ways there are to a state and on from the goal to an end, with so many letters in all.
+
+        With fewer letters than none there is no way.
+        """
         key = state, goal, length
         if key not in self.known:
             self.known[key] = sum([
@@ -50,21 +55,23 @@ class BlockedWords:
 
     def by_ways_to_new_end(self):
         """Return how many words make a new way to a new end."""
+        # Such a way is blocked by a word that is out if it is just what is left of this word.
+        left = {place: True for place in self.left}
         places = [
-            (state, way) for state, way in self.openings.is_left
+            (state, way) for state, way in left
             if 0 < len(way) <= self.length and self.openings.is_way_due(state, way, None)
         ]
         return sum([self.ahead[self.length - len(way)][state] for state, way in places])
 
     def by_ways_to_long(self):
         """Return how many words make a new way to a long state."""
-        places = {(state, rest[:many]): True for state, rest in self.openings.left for many in range(1, len(rest) + 1)}
+        # Such a way is blocked only by a word that goes along all of it.
+        places = {(state, rest[:many]): True for state, rest in self.left for many in range(1, len(rest) + 1)}
         found = 0
         for state, way in places:
             for goal in self.openings.long_states():
-                if len(way) <= self.length and self.openings.is_way_due(state, way, goal):
-                    if self.openings.is_blocked(("way", state, way, goal)):
-                        found += self.many_around(state, goal, self.length - len(way))
+                if self.openings.is_way_due(state, way, goal) and self.openings.is_blocked(("way", state, way, goal)):
+                    found += self.many_around(state, goal, self.length - len(way))
         return found
 
     def many_joining(self, one, other):
@@ -72,7 +79,7 @@ class BlockedWords:
         found = self.ahead[self.length][one] if other in self.grower.table.is_end else 0
         for letter in self.grower.lacking(one):
             target = self.grower.target(other, letter)
-            if target is not None and self.length > 0:
+            if target is not None:
                 found += self.many_around(one, target, self.length - 1)
         return found
 

@@ -68,10 +68,7 @@ def is_union(machine, other, result):
     is_result_end = {end: True for end in result[2]}
     # In the union the rest of a word depends on the pair to which it leads, so each pair has one state of the result.
     start = start_pair(machine, other)
-    nowhere = (None, None)
-    state_of = {nowhere: None, start: first_state(result)}
-    if state_of[nowhere] is not None:
-        return False
+    state_of = {(None, None): None, start: first_state(result)}
     queue = [start]
     at = 0
     while at < len(queue):

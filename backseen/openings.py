@@ -3,7 +3,7 @@
 The changes are those of `backseen.grown`; a change is *blocked* if some word that is out is taken after it.
 """
 
-from backseen.words import MOST_SHORT_LETTERS, ending, word_place
+from backseen.words import MOST_SHORT_LETTERS, ending, lead, word_place
 
 # One more than there can be words that are out: of the ways between the same states that have one length, each of them
 # blocks at most one.
@@ -19,30 +19,16 @@ def least_words(letters, length, most):
 
 
 class Openings:
-    """The changes of a seen machine that are not blocked, where the words of `outside` are out.
-
-    `left` has for each of these words the state behind which it leads nowhere, and what is left of it.
-    """
+    """The changes of a seen machine that are not blocked, where the words of `outside` are out."""
 
     def __init__(self, grower, outside):
         self.grower = grower
         self.letters = grower.letters
         self.look = grower.look
         self.outside = outside
-        self.left = [grower.way_out(word) for word in outside]
-        self.is_left = {place: True for place in self.left}
 
     def is_blocked(self, change):
         """Tell whether some word that is out is taken after the change."""
-        if change[0] == "end":
-            return (change[1], "") in self.is_left
-        if change[0] == "way":
-            _, state, way, goal = change
-            if goal is None:
-                return (state, way) in self.is_left
-            # Only a word that goes along all of the new way can be taken.
-            if not any([at == state and rest.startswith(way) for at, rest in self.left]):
-                return False
         return self.grower.first_taken(change, self.outside) is not None
 
     def is_end_due(self, state):
@@ -50,18 +36,15 @@ class Openings:
         return not self.grower.has_end_alike(state)
 
     def is_way_due(self, state, way, goal):
-        """Tell whether some word makes the new way from a state to the goal, or to a new end if this is None.
+        """Tell whether some word makes the new way from a state to a long one, or to a new end if the goal is None.
 
         The first letter of the way lacks at the state.
         """
-        grower = self.grower
         # Of what leads to a long state no more than its lead matters.
-        word = grower.leads[state] + way
+        word = self.grower.leads[state] + way
         if goal is None:
-            return grower.end_matched(word) is None
-        if len(word) < self.look or not grower.table.is_long(goal) or ending(word, self.look) != grower.leads[goal]:
-            return False
-        return grower.source_ahead(word, goal) is None
+            return self.grower.end_matched(word) is None
+        return lead(word, self.look) == self.grower.leads[goal] and self.grower.source_ahead(word, goal) is None
 
     def ways_to_new_end(self, state, length):
         """Return first words of this length whose first letter lacks at a state, and that may lead to a new end."""

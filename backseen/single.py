@@ -63,7 +63,11 @@ def loop_at(small, pair):
 def word_to_clash(small, pair):
     """Return the first word that leads from two states to those of a clash, or None."""
     found = clash_pairs(small)
-    return first_word_to(pair, lambda here: pairs_from(small, here), lambda here: in_order(here[0], here[1]) in found)
+
+    def following(here):
+        return pairs_from(small, here)
+
+    return first_word_to(pair, following, lambda here: in_order(here[0], here[1]) in found)
 
 
 def words_of_no_look(small):

@@ -64,8 +64,6 @@ def first_sample(machine, k):
 
 def is_told(small, k, sample):
     """Tell whether the closure of the sample at k is the language of a least machine."""
-    if not all(is_taken(small, word) for word in sample):
-        return False
     return Seen(small[0], sample, k).as_least() == small
 
 
@@ -133,9 +131,7 @@ def needed_paper(machine, k, word):
 
 def is_needed_paper(small, k, word, value):
     """Tell whether the value is a machine with the property at k of the language without the word."""
-    if not is_machine(value) or value[0] != small[0] or not keeps_property(value, k):
-        return False
-    return least(value) == without_word(small, word)
+    return is_machine(value) and keeps_property(value, k) and least(value) == without_word(small, word)
 
 
 def is_other_word(small, word, value):

@@ -229,7 +229,13 @@ class Evidence(unittest.TestCase):
         one, other = tree_of("ab", ("a",)), tree_of("ab", ("b",))
         self.assertEqual([accepts_union(one, other, k, ("kept", tree)) for k in (0, 1, 2)], [False, True, True])
         self.assertIs(accepts_union(one, other, 0, ("kept", least_of(tree))), True)
-        self.assertIs(accepts_union(one, other, 0, ("kept", ("abc",) + least_of(tree)[1:])), False)
+        self.assertIs(accepts_union(one, other, 0, ("kept", ("ac",) + least_of(tree)[1:])), False)
+        self.assertIs(accepts_union(one, other, 0, ("kept", ("abc", ((1, 1, None), (None,) * 3), (1,)))), False)
+        self.assertIs(accepts_complement(EVERY, 0, ("kept", ("ac", (), ()))), False)
+        self.assertIs(accepts_complement(EVERY, 0, ("kept", NONE)), True)
+        self.assertIs(accepts_union(NONE, NONE, 0, ("kept", NONE)), True)
+        for machine in oracles.all_machines("ab", 1):
+            self.assertIs(accepts_union(NONE, NONE, 0, ("kept", machine)), False)
         self.assertIs(accepts_complement(complement_of(tree), 0, ("kept", tree)), False)
         self.assertIs(accepts_complement(complement_of(tree), 1, ("kept", tree)), True)
 

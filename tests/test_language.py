@@ -152,6 +152,25 @@ class Language(unittest.TestCase):
                         if isinstance(operator, (ast.Is, ast.IsNot)):
                             self.assertIsInstance(right, ast.Constant, (path, node.lineno))
 
+    def test_lambdas_with_the_same_parameters_stand_on_different_lines(self):
+        for path, tree in trees():
+            places = [
+                (node.lineno, tuple(argument.arg for argument in node.args.args))
+                for node in ast.walk(tree) if isinstance(node, ast.Lambda)
+            ]
+            self.assertEqual(len(places), len(set(places)), path)
+
+    def test_default_values_are_plain(self):
+        for path, tree in trees():
+            defined = {
+                node.targets[0].id for node in tree.body if isinstance(node, ast.Assign)
+            } | {alias.name for node in tree.body if isinstance(node, ast.ImportFrom) for alias in node.names}
+            for function in functions(tree):
+                for value in function.args.defaults + [value for value in function.args.kw_defaults if value]:
+                    plain = isinstance(value, ast.Constant) or (isinstance(value, ast.Tuple) and not value.elts)
+                    named = isinstance(value, ast.Name) and value.id in defined and value.id.isupper()
+                    self.assertTrue(plain or named, (path, function.lineno))
+
     def test_names(self):
         for path, tree in trees():
             imported = {

@@ -238,6 +238,17 @@ class Needed(unittest.TestCase):
                 self.assertIs(accepts_needed(machine, k, word, ("needed", without(machine, word))), paper[0] == "needed")
         self.assertGreater(min(told.values()), 200)
 
+    def test_points_140_and_141_languages_of_one_word(self):
+        for word in ("", "a", "abba", "b" * 399):
+            machine = tree_of("ab", (word,))
+            for k in (0, 1, 12):
+                self.assertIs(is_needed(machine, k, word), True)
+                self.assertEqual(needed_words(machine, k), (word,))
+                self.assertEqual(needed_paper(machine, k, word), ("needed", NONE))
+                self.assertIs(accepts_needed(machine, k, word, ("needed", NONE)), True)
+                self.assertIs(accepts_needed(machine, k, word, ("needed", ("ac", (), ()))), False)
+                self.assertIs(accepts_needed(machine, k, word, ("needed", machine)), False)
+
     def test_point_141_steps_where_the_first_other_words_make_the_word_itself(self):
         # Between the empty word and a stands a loop: other beginnings and rests of aa make aa again.
         for many in range(1, 6):
@@ -384,6 +395,12 @@ class Errors(unittest.TestCase):
             sample = ("", "a" * (401 - k), "a" * (2 * (401 - k)))
             self.assertIs(tells(large, k, sample), True)
             self.assertEqual(thinned(large, k, sample), sample)
+
+    def test_point_144_looked_states_come_ahead_of_words(self):
+        for k, told in ((0, None), (6, "words"), (7, "words"), (8, "looked"), (12, "looked")):
+            self.assertEqual(raised(first_sample, EVERY, k), told)
+            self.assertEqual(raised(needed_words, EVERY, k), told)
+            self.assertEqual(raised(telling_number, EVERY, k), told if told == "looked" else None)
 
     def test_point_144_words_that_are_not_in_the_language(self):
         for machine, k, word in ((EVEN, 0, "a"), (ALL_A, 3, ""), (NONE, 0, "")):

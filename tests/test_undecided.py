@@ -138,6 +138,31 @@ class Undecided(unittest.TestCase):
                 self.assertIsNone(found)
         self.assertGreater(min(told.values()), 30)
 
+    def test_point_126_each_first_undecided_word_put_out(self):
+        # So all that is near is decided bit by bit, and the first undecided word has to be found further and further off.
+        lengths = {}
+        for _ in range(90):
+            letters = chance.choice(("a", "a", "ab", "ab", "abc"))
+            sample = oracles.random_sample(chance, letters, chance.choice((1, 2, 3, 5)), chance.choice((2, 3, 4)))
+            k = chance.choice((0, 1, 1, 2, 2, 3, 5, 11, 12))
+            outside, words = (), iter(oracles.all_words(letters, {"a": 30, "ab": 7, "abc": 4}[letters]))
+            while len(outside) < 12:
+                found = first_undecided(letters, sample, outside, k)
+                slow = next((word for word in words if is_open(letters, sample, outside, k, word)), None)
+                if slow is not None or found is None:
+                    self.assertEqual(found, slow, (letters, sample, outside, k))
+                self.assertIs(is_any_undecided(letters, sample, outside, k), found is not None)
+                lengths[-1 if found is None else len(found)] = True
+                if slow is None or len(found) > 12:
+                    break
+                self.assertTrue(is_open(letters, sample, outside, k, found))
+                length = chance.randint(0, MOST[letters])
+                same_length = [word for word in oracles.all_words(letters, length) if len(word) == length]
+                told = sum(is_open(letters, sample, outside, k, word) for word in same_length)
+                self.assertEqual(count_undecided(letters, sample, outside, k, length), told)
+                outside = oracles.in_order(outside + (found,))
+        self.assertLessEqual(set(range(-1, 13)), set(lengths))
+
     def test_point_124_undecided_words_by_their_machines(self):
         for letters, sample, outside, k in SIDES[:60]:
             if not are_apart(letters, sample, outside, k) or not sample:

@@ -295,6 +295,7 @@ class Evidence(unittest.TestCase):
             ("ends", 1, 3, "a"), ("ends", 1, 3, None), ("Ends", 1, 3), ("on", 1, 3), ("back", 1, 3), ["ends", 1, 3],
             ("on", 0, 0, "c"), ("on", 0, 0, ""), ("on", 0, 0, "aa"), ("on", 0, 0, 0), ("on", 0, 0, "b"), ("on", 0, 2, "a"),
             ("back", 0, 1, "a"), ("back", 3, 3, "a"), ("starts", 0, 0), ("starts", 0, 0, "a"), ("on", 4, 4, "a"), (),
+            ("on", 0, 0, "a", "a"), ("back", 2, 2, "b", ()), ("ends", 1, 3, "a", "a"),
             ("on", 0, False, "a"), ("on", 0.0, 0, "a"), ("on", "0", 0, "a"), ("ends", None, 3), (None, 1, 3),
         ):
             self.assertIs(judge(good, row), False, row)
@@ -341,7 +342,10 @@ class Evidence(unittest.TestCase):
         self.assertIs(judge(TWO, "aa"), False)
         self.assertIs(judge(TWO, "aa", 1), True)
         self.assertIs(judge(EVERY, "aa"), False)
-        self.assertIs(judge(("abc",) + made[1:], "aa"), False)
+        self.assertIs(judge(("abc", ((1, None, None), (2, None, None), (None, 1, None)), (1,)), "aa"), False)
+        self.assertIs(judge(("ac", made[1], made[2]), "aa"), False)
+        for value in (("Free", made), ("must", made), (None, made), ("free", made, ()), ("free",), ["free", made], ("free", made, made)):
+            self.assertIs(accepts_whole((TWO,), 0, "aa", value), False)
         self.assertIs(judge(list(made), "aa"), False)
         # Greater than the closure: it takes aaaa, too.
         greater = ("ab", ((1, None), (2, None), (0, 1)), (1,))
@@ -378,7 +382,7 @@ class Evidence(unittest.TestCase):
                 for word in oracles.all_words("ab", 4):
                     self.assertEqual(whole_paper((tree,), k, word)[0] == "must", is_must("ab", sample, k, word))
 
-    def test_points_77_and_8_values_of_any_kind(self):
+    def test_points_77_78_and_8_values_of_any_kind(self):
         names = ("must", "free", "on", "ends", "back")
         for word in ("", "aabab"):
             for machines in ((TWO,), (TWO, EVEN)):

@@ -322,6 +322,15 @@ class Evidence(unittest.TestCase):
         ):
             self.assertIs(accepts_window("ab", sample, 1, "aba", value), told, value)
 
+    def test_point_89_items_too_many(self):
+        sample = ("", "aba", "bab")
+        for k, word, right in (
+            (1, "aab", ("out", 0)), (2, "aab", ("out", "first")), (1, "a", ("in", 1, (), 1)), (1, "", ("in", 0)), (2, "a", ("out", "short")),
+        ):
+            self.assertIs(accepts_window("ab", sample, k, word, right), True)
+            for value in (right + (0,), right + ((),), right + (0, 0), right[:-1], right[:1], list(right), right[1:]):
+                self.assertIs(accepts_window("ab", sample, k, word, value), False, value)
+
     def test_point_89_words_of_500_letters_and_samples_with_longer_ones(self):
         sample = ("a" * 600, "a" * 700)
         for k in (0, 1, 12):
