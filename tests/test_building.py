@@ -137,9 +137,11 @@ class Unions(unittest.TestCase):
 
     def test_point_82_exactly_400_states_and_more_and_which_refusal_comes_first(self):
         for one, other, told in (
-            (circle("a", 16), circle("a", 25), None), (circle("a", 16, (0, 1), 1), circle("a", 25, (0, 1), 1), "states"),
+            (circle("a", 16), circle("a", 25), None),
+            (circle("a", 16, (0, 1), 1), circle("a", 25, (0, 1), 1), "states"),
             (circle("a", 20), circle("a", 21), "states"), (circle("a", 32), circle("a", 125), "states"),
-            (circle("a", 32, (0, 1), 1), circle("a", 125, (0, 1), 1), "pairs"), (circle("a", 63), circle("a", 64), "pairs"),
+            (circle("a", 32, (0, 1), 1), circle("a", 125, (0, 1), 1), "pairs"),
+            (circle("a", 63), circle("a", 64), "pairs"),
         ):
             self.assertEqual(raised(union_of, one, other), told)
             self.assertEqual(raised(union_paper, one, other, 3), told)
@@ -219,7 +221,9 @@ class Evidence(unittest.TestCase):
         for machine in MACHINES:
             made = complement_of(machine)
             for k in LOOKS:
-                for result in (looked_machine(made, k + 1), looked_machine(made, k), machine, closure_of(made, k), NONE):
+                for result in (
+                    looked_machine(made, k + 1), looked_machine(made, k), machine, closure_of(made, k), NONE,
+                ):
                     good = has_property(result, k) and telling_word(result, made) is None
                     told[good] += 1
                     self.assertIs(accepts_complement(machine, k, ("kept", result)), good)
@@ -318,10 +322,14 @@ class Evidence(unittest.TestCase):
         names = ("machine", "other", "k")
         oddities.check_wrong(self, union_of, names[:2], (EVEN, EVERY), wrong)
         oddities.check_wrong(self, union_paper, names, (EVEN, EVERY, 1), wrong)
-        oddities.check_wrong(self, lambda machine, other, k: accepts_union(machine, other, k, None), names, (EVEN, EVERY, 1), wrong)
+        oddities.check_wrong(
+            self, lambda machine, other, k: accepts_union(machine, other, k, None), names, (EVEN, EVERY, 1), wrong,
+        )
         oddities.check_wrong(self, complement_of, ("machine",), (EVEN,), wrong)
         oddities.check_wrong(self, complement_paper, ("machine", "k"), (EVEN, 1), wrong)
-        oddities.check_wrong(self, lambda machine, k: accepts_complement(machine, k, None), ("machine", "k"), (EVEN, 1), wrong)
+        oddities.check_wrong(
+            self, lambda machine, k: accepts_complement(machine, k, None), ("machine", "k"), (EVEN, 1), wrong,
+        )
 
     def test_point_84_ahead_of_too_large(self):
         self.assertTrue(oddities.is_refused(union_paper, (circle("a", 63), circle("a", 64), 13), "k"))

@@ -80,7 +80,7 @@ def plain_change(letters, sample, k, case, p, q):
     number = {at: None for at in label}
     table = {
         at: [
-            next((label[rows[other][i]] for other in range(len(rows)) if label[other] == at and rows[other][i] is not None), None)
+            next((label[row[i]] for other, row in enumerate(rows) if label[other] == at and row[i] is not None), None)
             for i in range(len(letters))
         ]
         for at in number

@@ -193,7 +193,9 @@ class Inside(unittest.TestCase):
         self.assertIs(accepts_inside(EVEN, other, ("inside", pairs + ((1, 0),))), True)
         for at in range(len(pairs)):
             self.assertIs(accepts_inside(EVEN, other, ("inside", pairs[:at] + pairs[at + 1:])), False)
-        for extra in ((2, 0), (0, 3), (-1, 0), (0, -1), (True, 0), (0, False), (0,), (0, 0, 0), [0, 0], None, (0, None)):
+        for extra in (
+            (2, 0), (0, 3), (-1, 0), (0, -1), (True, 0), (0, False), (0,), (0, 0, 0), [0, 0], None, (0, None),
+        ):
             self.assertIs(accepts_inside(EVEN, other, ("inside", pairs + (extra,))), False)
         self.assertIs(accepts_inside(EVEN, other, ("inside", list(pairs))), False)
         self.assertIs(accepts_inside(EVEN, other, ["inside", pairs]), False)
@@ -242,7 +244,9 @@ class Inside(unittest.TestCase):
 
     def test_point_8_and_34_values_of_any_kind(self):
         oddities.check_judge(self, lambda value: accepts_inside(EVEN, EVERY, value))
-        oddities.check_judge(self, lambda value: accepts_inside(NONE, EVERY, value), [("inside",), "inside", ("inside", [])])
+        oddities.check_judge(
+            self, lambda value: accepts_inside(NONE, EVERY, value), [("inside",), "inside", ("inside", [])],
+        )
 
     def test_point_34_equal_languages_lie_in_one_another(self):
         for machine, other, _ in some_pairs(36, 60):

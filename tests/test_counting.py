@@ -435,7 +435,9 @@ class Wrong(unittest.TestCase):
         oddities.check_wrong(self, lambda machine: accepts_growth(machine, None), ("machine",), (EVEN,), wrong)
 
     def test_point_176_wrong_indexes(self):
-        for index in (None, -1, -(10 ** 30), True, False, 1.0, "1", (1,), [1], oddities.OddInteger(1), oddities.Hostile()):
+        for index in (
+            None, -1, -(10 ** 30), True, False, 1.0, "1", (1,), [1], oddities.OddInteger(1), oddities.Hostile(),
+        ):
             self.assertTrue(oddities.is_refused(nth_word, (EVEN, index), "index"))
             self.assertTrue(oddities.is_refused(nth_word, (None, index), "machine"))
             self.assertTrue(oddities.is_refused(nth_word, (NONE, index), "index"))

@@ -211,7 +211,9 @@ class Language(unittest.TestCase):
             for node in ast.walk(tree):
                 if not isinstance(node, ast.For):
                     continue
-                over = {ast.unparse(part) for part in ast.walk(node.iter) if isinstance(part, (ast.Name, ast.Attribute))}
+                over = {
+                    ast.unparse(part) for part in ast.walk(node.iter) if isinstance(part, (ast.Name, ast.Attribute))
+                }
                 for part in [part for row in node.body for part in ast.walk(row)]:
                     if isinstance(part, ast.Call) and isinstance(part.func, ast.Attribute):
                         if part.func.attr in changing:

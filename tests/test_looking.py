@@ -290,7 +290,9 @@ class Edges(unittest.TestCase):
         oddities.check_wrong(self, clashes, ("machine",), (EVEN,), wrong)
         for function in (pairs_back, has_property, is_of_look, five_against):
             oddities.check_wrong(self, function, ("machine", "k"), (EVEN, 1), wrong)
-        oddities.check_wrong(self, lambda machine, k: accepts_five(machine, k, None), ("machine", "k"), (EVEN, 1), wrong)
+        oddities.check_wrong(
+            self, lambda machine, k: accepts_five(machine, k, None), ("machine", "k"), (EVEN, 1), wrong,
+        )
 
 
 if __name__ == "__main__":

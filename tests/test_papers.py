@@ -116,8 +116,12 @@ class Joins(unittest.TestCase):
         sample = ("a", "ab")
         # (on) wants nothing of a word with itself but to be there; (ends) and (back) want k letters.
         for k, told in ((0, True), (1, True), (2, False), (3, False)):
-            self.assertIs(accepts_joins("ab", sample, k, joins_for("ab", sample, k) + (("ends", "a", "a"),)), told or k == 1)
-            self.assertIs(accepts_joins("ab", sample, k, (("back", "a", "a", "b"),) + joins_for("ab", sample, k)), k < 2)
+            self.assertIs(
+                accepts_joins("ab", sample, k, joins_for("ab", sample, k) + (("ends", "a", "a"),)), told or k == 1,
+            )
+            self.assertIs(
+                accepts_joins("ab", sample, k, (("back", "a", "a", "b"),) + joins_for("ab", sample, k)), k < 2,
+            )
             self.assertIs(accepts_joins("ab", sample, k, (("on", "a", "a", "b"),) + joins_for("ab", sample, k)), True)
             self.assertIs(accepts_joins("ab", sample, k, (("back", "", "", "a"),) + joins_for("ab", sample, k)), k < 1)
             self.assertIs(accepts_joins("ab", sample, k, (("on", "b", "b", "a"),) + joins_for("ab", sample, k)), False)
@@ -358,7 +362,9 @@ class Papers(unittest.TestCase):
             )
         oddities.check_judge(self, lambda value: accepts_joins("abcd", TWO, 0, value))
         for odd in oddities.oddities():
-            for row in (("ends", odd, "a"), ("on", "a", odd, "a"), ("back", "a", "a", odd), (odd, "a", "a"), (odd,) * 4):
+            for row in (
+                ("ends", odd, "a"), ("on", "a", odd, "a"), ("back", "a", "a", odd), (odd, "a", "a"), (odd,) * 4,
+            ):
                 self.assertIs(accepts_joins("abcd", TWO, 0, joins_for("abcd", TWO, 0) + (row,)), False)
 
 
@@ -376,7 +382,8 @@ class Wrong(unittest.TestCase):
             ("ab", ("a",), 1, "b"), wrong,
         )
         oddities.check_wrong(
-            self, lambda letters, sample, k: accepts_joins(letters, sample, k, None), names[:3], ("ab", ("a",), 1), wrong,
+            self, lambda letters, sample, k: accepts_joins(letters, sample, k, None), names[:3], ("ab", ("a",), 1),
+            wrong,
         )
 
     def test_point_59_ahead_of_too_large(self):

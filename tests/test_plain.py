@@ -69,7 +69,8 @@ CALLS = [
     (undecided.undecided_paper, *SIDES, 0), (undecided.undecided_paper, *SIDES, 1),
     (undecided.undecided_paper, "a", ("", "aaaaa"), ("a",), 0),
     (undecided.accepts_undecided, "ab", ("", "a", "b", "ab"), (), 0, ("none", ())), (telling.telling_number, EVEN, 0),
-    (telling.first_sample, EVEN, 0), (telling.tells, EVEN, 0, ("", "b")), (telling.thinned, EVERY, 0, ("", "a", "b", "ab")),
+    (telling.first_sample, EVEN, 0), (telling.tells, EVEN, 0, ("", "b")),
+    (telling.thinned, EVERY, 0, ("", "a", "b", "ab")),
     (telling.is_needed, EVEN, 0, "b"), (telling.needed_words, EVERY, 2), (telling.needed_paper, EVERY, 2, "a"),
     (telling.needed_paper, EVERY, 0, "a"), (telling.accepts_needed, EVERY, 0, "a", ("needed", NONE)),
 ]

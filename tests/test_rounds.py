@@ -275,7 +275,9 @@ class Rows(unittest.TestCase):
         self.assertIs(accepts_rows("a", ("", "aa"), 0, "", rows[:3] + (("seen", ""),)), False)
         self.assertIs(accepts_rows("a", ("", "aa"), 0, "aaaa", rows[:3] + (("by", 0, 1, 1, 0),)), True)
         self.assertIs(accepts_rows("a", ("", "aa"), 0, "aaaaaa", rows[:3] + (("by", 0, 1, 2, 0),)), True)
-        self.assertIs(accepts_rows("a", ("", "aa"), 0, "aaaa", rows[:3] + (("by", 0, 1, 2, 0), ("by", 0, 1, 1, 0))), False)
+        self.assertIs(
+            accepts_rows("a", ("", "aa"), 0, "aaaa", rows[:3] + (("by", 0, 1, 2, 0), ("by", 0, 1, 1, 0))), False,
+        )
         # A word of the sample may be longer than the word that is asked.
         self.assertIs(
             accepts_rows("a", ("aaa", "aaaaa"), 0, "a", (("seen", "aaa"), ("seen", "aaaaa"), ("by", 1, 0, 0, 3))), True,

@@ -95,7 +95,9 @@ class Apart(unittest.TestCase):
         for sample in itertools.chain.from_iterable(itertools.combinations(words, many) for many in (0, 1, 2)):
             for outside in itertools.chain.from_iterable(itertools.combinations(words, many) for many in (0, 1, 2)):
                 for k in (0, 1, 2):
-                    fitting = [machine for machine in pool if fits(machine, sample, outside, k) and is_of_look(machine, k)]
+                    fitting = [
+                        machine for machine in pool if fits(machine, sample, outside, k) and is_of_look(machine, k)
+                    ]
                     apart = are_apart("a", sample, outside, k)
                     self.assertTrue(apart or not fitting)
                     for word in words:
@@ -127,7 +129,9 @@ class Apart(unittest.TestCase):
         pool = oracles.random_machines(104, 30, "ab", 4) + [NONE, EVEN]
         for sample, outside in SIDES:
             for k in (0, 1, 2):
-                machines = [seen_machine("ab", sample, k), closure("ab", put_in(sample, "ab"), k), tree_of("ab", sample)]
+                machines = [
+                    seen_machine("ab", sample, k), closure("ab", put_in(sample, "ab"), k), tree_of("ab", sample),
+                ]
                 for machine in machines + [chance.choice(pool)]:
                     good = has_property(machine, k) and fits(machine, sample, outside, k)
                     told[good] += 1
@@ -165,10 +169,14 @@ class Apart(unittest.TestCase):
         self.assertIs(judge("clash", n, rows, ("", "abb")), True)
         self.assertIs(judge("clash", n, rows + (("back", "ab", "a", "b"),), ("", "ab")), True)
         for value in (
-            ("clash", "ba", rows, way), ("clash", "b", rows, way), ("clash", "ab", rows, ("", "a", "ab")), ("clash", n, rows[1:], way),
-            ("clash", n, rows[::-1], way), ("clash", n, rows[:1], way), ("clash", n, (), way), ("clash", n, rows, ("", "")),
-            ("clash", n, rows, ("a", "ab")), ("clash", n, rows, way[:1]), ("clash", n, rows), ("clash", n, rows, way, ()),
-            ("clash", n, list(rows), way), ("clash", n, rows, list(way)), list(CLASH), ("must", rows, way), ("must", n, rows, way),
+            ("clash", "ba", rows, way), ("clash", "b", rows, way), ("clash", "ab", rows, ("", "a", "ab")),
+            ("clash", n, rows[1:], way),
+            ("clash", n, rows[::-1], way), ("clash", n, rows[:1], way), ("clash", n, (), way),
+            ("clash", n, rows, ("", "")),
+            ("clash", n, rows, ("a", "ab")), ("clash", n, rows, way[:1]), ("clash", n, rows),
+            ("clash", n, rows, way, ()),
+            ("clash", n, list(rows), way), ("clash", n, rows, list(way)), list(CLASH), ("must", rows, way),
+            ("must", n, rows, way),
             ("Clash", n, rows, way), (None, n, rows, way), ("clash", None, rows, way), ("clash", (n,), rows, way),
             ("apart", n, rows, way), ("clash", ("must", rows, way)), ("must not", n, rows, way),
         ):
@@ -268,13 +276,18 @@ class Verdicts(unittest.TestCase):
         self.assertIs(judge("must not", "ba", further[2:] + further[:2], way), True)
         self.assertIs(judge("must not", "ba", further, ("", "a", "ab")), False)
         for value in (
-            ("must not", "ba", further[1:], way), ("must not", "ba", further[::-1], way), ("must not", "b", further, way),
-            ("must not", "ab", further, way), ("must", "ba", further, way), ("must", further, way), ("clash", "ba", further, way),
-            ("must not", further, way), ("must not", "ba", further), ("must not", "ba", further, way, ()), ("must not", "ba", further, way[1:]),
+            ("must not", "ba", further[1:], way), ("must not", "ba", further[::-1], way),
+            ("must not", "b", further, way),
+            ("must not", "ab", further, way), ("must", "ba", further, way), ("must", further, way),
+            ("clash", "ba", further, way),
+            ("must not", further, way), ("must not", "ba", further), ("must not", "ba", further, way, ()),
+            ("must not", "ba", further, way[1:]),
             ("mustnot", "ba", further, way), ["must not", "ba", further, way], ("must not", "ba", list(further), way),
             ("must not", None, further, way), ("must not", ("ba",), further, way),
         ):
-            self.assertIs(judge(*value) if type(value) is tuple else accepts_verdict("ab", SEEN, ("ba",), 0, "b", value), False)
+            self.assertIs(
+                judge(*value) if type(value) is tuple else accepts_verdict("ab", SEEN, ("ba",), 0, "b", value), False,
+            )
         self.assertIs(accepts_verdict("ab", SEEN, ("b", "ba"), 0, "b", ("must not", "ba", further, way)), True)
         for k in (1, 2):
             self.assertIs(accepts_verdict("ab", SEEN, ("ba",), k, "b", ("must not", "ba", further, way)), False)
@@ -302,8 +315,10 @@ class Verdicts(unittest.TestCase):
         one = ("ab", ((1, None), (1, 2), (None, 2)), (2,))
         self.assertIs(accepts_verdict("ab", SEEN, OUT, 1, "aab", ("open", one, MACHINE)), True)
         for value in (
-            ("open", MACHINE, one), ("open", one, one), ("open", MACHINE, MACHINE), ("open", one), ("open", one, MACHINE, ()),
-            ("open", (one, MACHINE)), ("open", list(one), MACHINE), ("open", one, None), ["open", one, MACHINE], ("apart", one),
+            ("open", MACHINE, one), ("open", one, one), ("open", MACHINE, MACHINE), ("open", one),
+            ("open", one, MACHINE, ()),
+            ("open", (one, MACHINE)), ("open", list(one), MACHINE), ("open", one, None), ["open", one, MACHINE],
+            ("apart", one),
             ("Open", one, MACHINE), ("open", ("abc",) + one[1:], MACHINE),
         ):
             self.assertIs(accepts_verdict("ab", SEEN, OUT, 1, "aab", value), False)
@@ -350,7 +365,9 @@ class Verdicts(unittest.TestCase):
                         self.assertIs(are_apart("ab", *grown, k), told != opposite)
                         if told == same:
                             for other in WORDS[:15]:
-                                self.assertEqual(verdict("ab", *grown, k, other), verdict("ab", sample, outside, k, other))
+                                self.assertEqual(
+                                    verdict("ab", *grown, k, other), verdict("ab", sample, outside, k, other),
+                                )
                         elif told == "open":
                             self.assertEqual(verdict("ab", *grown, k, word), same)
 
@@ -438,12 +455,17 @@ class Least(unittest.TestCase):
         rows = CLASH[2] + (("ends", "abb", "ab"), ("ends", "ab", "ab"))
         self.assertIs(judge("apart", 1, MACHINE, ("clash", "a", rows, ("", "ab"))), True)
         for value in (
-            ("apart", 0, MACHINE, ()), ("apart", 1, MACHINE, ()), ("apart", 2, MACHINE, CLASH), ("apart", 0, MACHINE, CLASH),
-            ("apart", True, MACHINE, CLASH), ("apart", 1.0, MACHINE, CLASH), ("apart", "1", MACHINE, CLASH), ("apart", 13, MACHINE, CLASH),
-            ("apart", -1, MACHINE, CLASH), ("apart", 1, EVEN, CLASH), ("apart", 1, MACHINE), ("apart", 1, MACHINE, CLASH, ()),
+            ("apart", 0, MACHINE, ()), ("apart", 1, MACHINE, ()), ("apart", 2, MACHINE, CLASH),
+            ("apart", 0, MACHINE, CLASH),
+            ("apart", True, MACHINE, CLASH), ("apart", 1.0, MACHINE, CLASH), ("apart", "1", MACHINE, CLASH),
+            ("apart", 13, MACHINE, CLASH),
+            ("apart", -1, MACHINE, CLASH), ("apart", 1, EVEN, CLASH), ("apart", 1, MACHINE),
+            ("apart", 1, MACHINE, CLASH, ()),
             ("apart", MACHINE, CLASH), ("apart", 1, list(MACHINE), CLASH), ("apart", 1, MACHINE, list(CLASH)),
-            ("apart", 1, MACHINE, ("clash", "ba") + CLASH[2:]), ("apart", 1, MACHINE, CLASH[:3]), ("never", "a"), ("never", "ab"),
-            ("never",), ("never", None), ("clash",) + CLASH[1:], ("Apart", 1, MACHINE, CLASH), ("apart", 1, ("apart", MACHINE), CLASH),
+            ("apart", 1, MACHINE, ("clash", "ba") + CLASH[2:]), ("apart", 1, MACHINE, CLASH[:3]), ("never", "a"),
+            ("never", "ab"),
+            ("never",), ("never", None), ("clash",) + CLASH[1:], ("Apart", 1, MACHINE, CLASH),
+            ("apart", 1, ("apart", MACHINE), CLASH),
         ):
             self.assertIs(judge(*value), False, value)
         for n in ("abb", "ab", "b", "", "bb"):
@@ -501,7 +523,7 @@ class From(unittest.TestCase):
 
     def test_point_112_more_than_400_looked_states(self):
         for k in range(2, 14):
-            # The word a ** (k - 1) is in the closure at k - 1, and not at k; there are 400 looked states there, or more.
+            # The word of k - 1 letters is in the closure at k - 1, and not at k: 400 looked states there, or more.
             for states, told in ((400 - k, None), (401 - k, "looked")):
                 machine = circle("a", states, (k, k + 1))
                 found = None
@@ -531,7 +553,8 @@ class Wrong(unittest.TestCase):
     def test_point_115_wrong_arguments(self):
         wrong = {
             "letters": oddities.LETTERS, "sample": oddities.SHORT_SAMPLES, "outside": oddities.SHORT_SAMPLES,
-            "k": oddities.LOOKS, "word": oddities.WORDS + ["a" * 101, "ab" * 51], "machine": oddities.MACHINES + [chain("a", 401)],
+            "k": oddities.LOOKS, "word": oddities.WORDS + ["a" * 101, "ab" * 51],
+            "machine": oddities.MACHINES + [chain("a", 401)],
         }
         names, right = ("letters", "sample", "outside", "k", "word"), ("ab", ("a",), ("b",), 1, "ab")
         for function in (are_apart, apart_paper):

@@ -159,7 +159,9 @@ class Looks(unittest.TestCase):
 
     def test_point_100_example(self):
         self.assertIsNone(least_look(NO_LOOK))
-        self.assertEqual(oracles.language(NO_LOOK, 4), {"a", "ab", "abb", "abbb", "b", "bb", "bbb", "bbbb", "ba", "bba", "bbba"})
+        self.assertEqual(
+            oracles.language(NO_LOOK, 4), {"a", "ab", "abb", "abbb", "b", "bb", "bbb", "bbbb", "ba", "bba", "bbba"},
+        )
         self.assertIs(accepts_look(NO_LOOK, ("none", "b", "a", "b", "", "", "a")), True)
         self.assertEqual((least_look(SIX), least_look(THREE)), (6, 3))
         self.assertEqual(clashes(THREE), ((0, 2),))
@@ -194,8 +196,10 @@ class Judging(unittest.TestCase):
         five = ("bb", "bba", "abaab", "baa", "")
         self.assertIs(accepts_look(SIX, ("look", 6, five)), True)
         for value in (
-            ("look", 5, five), ("look", 7, five), ("look", 6, ()), ("look", 6, five[:4]), ("look", 0, ()), ("look", 0, five),
-            ("look", 6, five, ()), ("look", 6), ("none", 6, five), ("look", True, five), ("look", 6.0, five), ["look", 6, five],
+            ("look", 5, five), ("look", 7, five), ("look", 6, ()), ("look", 6, five[:4]), ("look", 0, ()),
+            ("look", 0, five),
+            ("look", 6, five, ()), ("look", 6), ("none", 6, five), ("look", True, five), ("look", 6.0, five),
+            ["look", 6, five],
             ("look", 191, five), ("look", -1, ()), ("look", 10 ** 100, five), ("Look", 6, five), (None, 6, five),
         ):
             self.assertIs(accepts_look(SIX, value), False, value)
@@ -254,7 +258,8 @@ class Judging(unittest.TestCase):
         self.assertEqual(least_look(same), 1)
         for many in (500, 501):
             for five in (
-                ("b" * many, "a", "", "", "a"), ("", "b" * (many - 1) + "a", "", "", "a"), ("", "a", "", "b" * many, "a"),
+                ("b" * many, "a", "", "", "a"), ("", "b" * (many - 1) + "a", "", "", "a"),
+                ("", "a", "", "b" * many, "a"),
                 ("", "a", "", "", "a" + "b" * (many - 1)),
             ):
                 self.assertIs(accepts_look(same, ("look", 1, five)), many == 500, five)
@@ -293,7 +298,8 @@ class Edges(unittest.TestCase):
         for machine in large:
             for function in (
                 least_look, look_evidence, lambda machine: accepts_look(machine, ("look", 0, ())),
-                lambda machine: accepts_look(machine, None), lambda machine: accepts_look(machine, oddities.nested(tuple)),
+                lambda machine: accepts_look(machine, None),
+                lambda machine: accepts_look(machine, oddities.nested(tuple)),
             ):
                 with self.assertRaises(TooLarge) as caught:
                     function(machine)
@@ -303,7 +309,9 @@ class Edges(unittest.TestCase):
     def test_point_97_evidence_of_machines_with_20_states(self):
         found = {"look": 0, "none": 0}
         for _ in range(60):
-            machine = oracles.random_machine(chance, chance.choice(("ab", "abcd")), 20, chance.choice((0, 0.3, 0.6)), 0.1)
+            machine = oracles.random_machine(
+                chance, chance.choice(("ab", "abcd")), 20, chance.choice((0, 0.3, 0.6)), 0.1,
+            )
             paper = look_evidence(machine)
             found[paper[0]] += 1
             self.assertIs(accepts_look(machine, paper), True)

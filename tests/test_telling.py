@@ -21,7 +21,8 @@ from oddities import EVEN, EVERY, NONE, chain, circle
 
 chance = random.Random(132)
 LOOKS = (0, 1, 2, 3)
-POOL = oracles.random_machines(132, 60, "ab", 4) + oracles.random_machines(133, 10, "abc", 3) + oracles.random_machines(134, 20, "a", 6)
+POOL = oracles.random_machines(132, 60, "ab", 4) + oracles.random_machines(133, 10, "abc", 3)
+POOL += oracles.random_machines(134, 20, "a", 6)
 MACHINES = POOL + [closure_of(machine, k) for machine in POOL for k in (0, 1, 2)] + [NONE, EVEN, EVERY]
 TOLD = [(machine, k) for machine in MACHINES for k in LOOKS if is_of_look(machine, k)]
 chance.shuffle(TOLD)
@@ -235,7 +236,9 @@ class Needed(unittest.TestCase):
                     self.assertIsNone(telling_word(paper[1], without(machine, word)))
                 else:
                     self.assertTrue(plain_step(machine, k, word, paper))
-                self.assertIs(accepts_needed(machine, k, word, ("needed", without(machine, word))), paper[0] == "needed")
+                self.assertIs(
+                    accepts_needed(machine, k, word, ("needed", without(machine, word))), paper[0] == "needed",
+                )
         self.assertGreater(min(told.values()), 200)
 
     def test_points_140_and_141_languages_of_one_word(self):
@@ -281,13 +284,20 @@ class Needed(unittest.TestCase):
 
         self.assertIs(judge(*right), True)
         for value in (
-            ("not needed", "aaa", "aa", "aa", 1), ("not needed", "aaa", "aa", "aa", 3), ("not needed", "aaa", "aa", "aa", 0),
-            ("not needed", "aaa", "aa", "aa", True), ("not needed", "aaa", "aa", "aa", 2.0), ("not needed", "aaa", "aa", "aa", None),
-            ("not needed", "a", "aa", "aa", 1), ("not needed", "aaa", "a", "aa", 2), ("not needed", "aaa", "aa", "a", 2),
-            ("not needed", "aaa", "aa", "aaa", 2), ("not needed", "aab", "aa", "aa", 2), ("not needed", "aaa", "aa", "aa"),
-            ("not needed", "aaa", "aa", "aa", 2, 2), ("needed", "aaa", "aa", "aa", 2), ("Not needed", "aaa", "aa", "aa", 2),
-            list(right), ("not needed", ("aaa",), "aa", "aa", 2), ("not needed", None, "aa", "aa", 2), ("not needed", ALL_A),
-            (None, "aaa", "aa", "aa", 2), ("not needed", "aaa", "aa", "aa", 10 ** 30), ("not needed", "aaa", "aa", "aa", -1),
+            ("not needed", "aaa", "aa", "aa", 1), ("not needed", "aaa", "aa", "aa", 3),
+            ("not needed", "aaa", "aa", "aa", 0),
+            ("not needed", "aaa", "aa", "aa", True), ("not needed", "aaa", "aa", "aa", 2.0),
+            ("not needed", "aaa", "aa", "aa", None),
+            ("not needed", "a", "aa", "aa", 1), ("not needed", "aaa", "a", "aa", 2),
+            ("not needed", "aaa", "aa", "a", 2),
+            ("not needed", "aaa", "aa", "aaa", 2), ("not needed", "aab", "aa", "aa", 2),
+            ("not needed", "aaa", "aa", "aa"),
+            ("not needed", "aaa", "aa", "aa", 2, 2), ("needed", "aaa", "aa", "aa", 2),
+            ("Not needed", "aaa", "aa", "aa", 2),
+            list(right), ("not needed", ("aaa",), "aa", "aa", 2), ("not needed", None, "aa", "aa", 2),
+            ("not needed", ALL_A),
+            (None, "aaa", "aa", "aa", 2), ("not needed", "aaa", "aa", "aa", 10 ** 30),
+            ("not needed", "aaa", "aa", "aa", -1),
         ):
             self.assertIs(accepts_needed(ALL_A, 1, "a", value), False, value)
         for many in (500, 501, 5000):
@@ -313,8 +323,10 @@ class Needed(unittest.TestCase):
         made = needed_paper(ALL_A, 1, "")[1]
         self.assertEqual(made, ("a", ((1,), (1,)), (1,)))
         for value in (
-            ("needed", list(made)), ("needed", made, ()), ("needed",), ["needed", made], ("not needed", made), ("Needed", made),
-            (None, made), ("needed", ("ab", ((1, None), (1, None)), (1,))), ("needed", ALL_A), ("needed", ("a", (), ())), made,
+            ("needed", list(made)), ("needed", made, ()), ("needed",), ["needed", made], ("not needed", made),
+            ("Needed", made),
+            (None, made), ("needed", ("ab", ((1, None), (1, None)), (1,))), ("needed", ALL_A),
+            ("needed", ("a", (), ())), made,
         ):
             self.assertIs(accepts_needed(ALL_A, 1, "", value), False)
         # Not least and without the property, though its language is of the look.
@@ -361,7 +373,9 @@ class Errors(unittest.TestCase):
         return {name: words.pop() for name, words in found.items() if len(words) == 1}
 
     def test_point_144_languages_that_are_not_of_the_look(self):
-        names = ("telling_number", "first_sample", "thinned", "is_needed", "needed_words", "needed_paper", "accepts_needed")
+        names = (
+            "telling_number", "first_sample", "thinned", "is_needed", "needed_words", "needed_paper", "accepts_needed",
+        )
         for k in (0, 1, 5, 12):
             # Two ends and looks that are missing; the words handed in are in the language, or are not.
             machine = chain("ab", k + 2, (k, k + 1))
@@ -437,7 +451,9 @@ class Errors(unittest.TestCase):
         # On a circle each edge beside the way with one letter makes one word of as many letters as there are states.
         for many, beside, told in ((40, 49, None), (69, 28, "words")):
             rows = [
-                tuple((at + 1) % many if letter == 0 or at + (letter - 1) * many < beside else None for letter in range(3))
+                tuple(
+                    (at + 1) % many if letter == 0 or at + (letter - 1) * many < beside else None for letter in range(3)
+                )
                 for at in range(many)
             ]
             machine = oracles.machine_of("abc", rows, {0})

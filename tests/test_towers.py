@@ -27,12 +27,16 @@ def is_right(sample, outside, word, value):
     _, least, last, clash, apart, kept, free = value
     if not 0 <= least <= 12 or not least - 1 <= last <= 12:
         return False
-    good = clash == () if least == 0 else clash != () and clash[0] == "clash" and accepts_apart("ab", sample, outside, least - 1, clash)
+    good = clash == () if least == 0 else clash != () and clash[0] == "clash" and accepts_apart(
+        "ab", sample, outside, least - 1, clash,
+    )
     good = good and apart != () and apart[0] == "apart" and accepts_apart("ab", sample, outside, least, apart)
     if last == least - 1:
         good = good and kept == ()
     else:
-        good = good and kept != () and kept[0] in ("must", "must not") and accepts_verdict("ab", sample, outside, last, word, kept)
+        good = good and kept != () and kept[0] in ("must", "must not") and accepts_verdict(
+            "ab", sample, outside, last, word, kept,
+        )
     if last == 12:
         return good and free == ()
     return good and free != () and free[0] == "open" and accepts_verdict("ab", sample, outside, last + 1, word, free)
@@ -112,15 +116,23 @@ class Towers(unittest.TestCase):
         self.assertIs(judge(*RIGHT[:4], ("apart", closure("ab", SEEN, 1)), KEPT, FREE), True)
         self.assertIs(judge(*RIGHT[:6], verdict_paper("ab", SEEN, OUT, 2, "abbb")), True)
         for value in (
-            ("tower", 0, 1) + RIGHT[3:], ("tower", 1, 0) + RIGHT[3:], ("tower", 1, 2) + RIGHT[3:], ("tower", 2, 1) + RIGHT[3:],
-            ("tower", True, 1) + RIGHT[3:], ("tower", 1, True) + RIGHT[3:], ("tower", 1, 13) + RIGHT[3:], ("tower", 13, 13) + RIGHT[3:],
-            ("tower", 1, None) + RIGHT[3:], ("tower", -1, 1) + RIGHT[3:], ("tower", 1, -1) + RIGHT[3:], ("Tower",) + RIGHT[1:], RIGHT[:6],
-            RIGHT + ((),), list(RIGHT), ("tower", 1, 1, (), ("apart", MACHINE), KEPT, FREE), ("tower", 1, 1, CLASH, (), KEPT, FREE),
+            ("tower", 0, 1) + RIGHT[3:], ("tower", 1, 0) + RIGHT[3:], ("tower", 1, 2) + RIGHT[3:],
+            ("tower", 2, 1) + RIGHT[3:],
+            ("tower", True, 1) + RIGHT[3:], ("tower", 1, True) + RIGHT[3:], ("tower", 1, 13) + RIGHT[3:],
+            ("tower", 13, 13) + RIGHT[3:],
+            ("tower", 1, None) + RIGHT[3:], ("tower", -1, 1) + RIGHT[3:], ("tower", 1, -1) + RIGHT[3:],
+            ("Tower",) + RIGHT[1:], RIGHT[:6],
+            RIGHT + ((),), list(RIGHT), ("tower", 1, 1, (), ("apart", MACHINE), KEPT, FREE),
+            ("tower", 1, 1, CLASH, (), KEPT, FREE),
             ("tower", 1, 1, CLASH, MACHINE, KEPT, FREE), ("tower", 1, 1, CLASH, ("apart", MACHINE), (), FREE),
-            ("tower", 1, 1, CLASH, ("apart", MACHINE), KEPT, ()), ("tower", 1, 1, CLASH, ("apart", MACHINE), FREE, KEPT),
-            ("tower", 1, 1, ("apart", MACHINE), CLASH, KEPT, FREE), ("tower", 1, 0, CLASH, ("apart", MACHINE), (), FREE),
-            ("tower", 1, 12, CLASH, ("apart", MACHINE), KEPT, ()), ("tower", 1, 1, list(CLASH), ("apart", MACHINE), KEPT, FREE),
-            ("tower", 1, 1, CLASH, ("apart", MACHINE), KEPT, ("apart", MACHINE)), ("never", "a"), ("never", "ab"), ("never",),
+            ("tower", 1, 1, CLASH, ("apart", MACHINE), KEPT, ()),
+            ("tower", 1, 1, CLASH, ("apart", MACHINE), FREE, KEPT),
+            ("tower", 1, 1, ("apart", MACHINE), CLASH, KEPT, FREE),
+            ("tower", 1, 0, CLASH, ("apart", MACHINE), (), FREE),
+            ("tower", 1, 12, CLASH, ("apart", MACHINE), KEPT, ()),
+            ("tower", 1, 1, list(CLASH), ("apart", MACHINE), KEPT, FREE),
+            ("tower", 1, 1, CLASH, ("apart", MACHINE), KEPT, ("apart", MACHINE)), ("never", "a"), ("never", "ab"),
+            ("never",),
             ("tower", 1, 1, CLASH, CLASH, KEPT, FREE), ("tower", 1, 1, CLASH, ("apart", MACHINE), CLASH, FREE),
         ):
             told = accepts_tower("ab", SEEN, OUT, "abbb", value)
@@ -166,7 +178,9 @@ class Towers(unittest.TestCase):
     def test_point_116_example(self):
         self.assertEqual(apart_paper("ab", SEEN, OUT, 0)[:2], ("clash", "a"))
         self.assertEqual(least_apart("ab", SEEN, OUT), 1)
-        self.assertEqual([verdict("ab", SEEN, OUT, 1, word) for word in ("abbb", "ba", "aab")], ["must", "must not", "open"])
+        self.assertEqual(
+            [verdict("ab", SEEN, OUT, 1, word) for word in ("abbb", "ba", "aab")], ["must", "must not", "open"],
+        )
         self.assertEqual(tower("ab", SEEN, OUT, "abbb"), ("clash", "must") + ("open",) * 11)
         self.assertEqual(closure("ab", SEEN, 1), MACHINE)
 

@@ -139,7 +139,7 @@ class Undecided(unittest.TestCase):
         self.assertGreater(min(told.values()), 30)
 
     def test_point_126_each_first_undecided_word_put_out(self):
-        # So all that is near is decided bit by bit, and the first undecided word has to be found further and further off.
+        # So what is near is decided bit by bit, and the first undecided word has to be found further and further off.
         lengths = {}
         for _ in range(90):
             letters = chance.choice(("a", "a", "ab", "ab", "abc"))
@@ -182,7 +182,9 @@ class Undecided(unittest.TestCase):
                     if has_property(machine, k) and all(takes(machine, word) for word in sample)
                     and not any(takes(machine, word) for word in outside)
                 ]
-                self.assertLessEqual(len({tuple(takes(machine, "a" * at) for at in range(20)) for machine in fitting}), 1)
+                self.assertLessEqual(
+                    len({tuple(takes(machine, "a" * at) for at in range(20)) for machine in fitting}), 1,
+                )
 
     def test_point_125_the_two_rules(self):
         told = {True: 0, False: 0}
@@ -237,7 +239,9 @@ class Undecided(unittest.TestCase):
                     self.assertIs(is_any_undecided(letters, (), outside, k), True)
                     for length in range(4):
                         words = [word for word in outside if len(word) == length]
-                        self.assertEqual(count_undecided(letters, (), outside, k, length), len(letters) ** length - len(words))
+                        self.assertEqual(
+                            count_undecided(letters, (), outside, k, length), len(letters) ** length - len(words),
+                        )
                     paper = undecided_paper(letters, (), outside, k)
                     self.assertIs(accepts_undecided(letters, (), outside, k, paper), True)
                     self.assertEqual(paper[:2], ("some", word))
@@ -256,7 +260,9 @@ class Undecided(unittest.TestCase):
         for letters, sample, outside, k in SIDES[:30] + DECIDED:
             most = count_undecided(letters, sample, outside, k, 200)
             self.assertIs(type(most), int)
-            self.assertEqual(count_undecided(letters, sample, outside, k, 0), int(is_open(letters, sample, outside, k, "")))
+            self.assertEqual(
+                count_undecided(letters, sample, outside, k, 0), int(is_open(letters, sample, outside, k, "")),
+            )
             if (letters, sample, outside, k) in DECIDED:
                 self.assertEqual(most, 0)
         self.assertEqual(count_undecided("ab", (), ("a",), 0, 200), 2 ** 200)
@@ -353,14 +359,18 @@ class Evidence(unittest.TestCase):
         for other in (
             ("way", 0, "b", 2), ("way", 0, "b", 2, "b", "b"), ("Way", 0, "b", 2, "b"), ("way", False, "b", 2, "b"),
             ("way", 0, "b", 2.0, "b"), ("way", 0, "b", True, "b"), ("way", 0, "b", None, "b"), ("way", 0, "b", 1, "b"),
-            ("way", 0, "", 2, "b"), ("way", 0, "bb", 2, "b"), ("way", 0, "a", 1, "b"), ("way", 0, "b", 2, "a"), ("way", 0, "b", 2, ""),
-            ("way", 0, "b", 2, None), ("way", 0, "b", 2, ("b",)), ["way", 0, "b", 2, "b"], ("way", 1, "b", 2, "b"), ("end", 0, "b"),
-            ("end", 2, "b"), ("join", 0, 1, "b"), ("join", 1, 2, "b"), ("join", 2, 1, "b"), (), ("way",), ("way", 0, ("b",), 2, "b"),
+            ("way", 0, "", 2, "b"), ("way", 0, "bb", 2, "b"), ("way", 0, "a", 1, "b"), ("way", 0, "b", 2, "a"),
+            ("way", 0, "b", 2, ""),
+            ("way", 0, "b", 2, None), ("way", 0, "b", 2, ("b",)), ["way", 0, "b", 2, "b"], ("way", 1, "b", 2, "b"),
+            ("end", 0, "b"),
+            ("end", 2, "b"), ("join", 0, 1, "b"), ("join", 1, 2, "b"), ("join", 2, 1, "b"), (), ("way",),
+            ("way", 0, ("b",), 2, "b"),
         ):
             self.assertIs(judge(other), False, other)
             self.assertIs(judge(row, other), False, other)
         for value in (
-            ("none", (row,), ()), ("none", [row]), ["none", (row,)], ("None", (row,)), ("none", row), ("none",), (None, (row,)),
+            ("none", (row,), ()), ("none", [row]), ["none", (row,)], ("None", (row,)), ("none", row), ("none",),
+            (None, (row,)),
             ("none", None), ("some", (row,)), ("clash", (row,)), ("none", (list(row),)),
         ):
             self.assertIs(accepts_undecided("ab", MANY, ("b",), 1, value), False)
@@ -372,7 +382,9 @@ class Evidence(unittest.TestCase):
         self.assertIs(accepts_undecided("a", FIVE, ("a",), 0, ("none", joins)), True)
         for at, join in enumerate(joins):
             swapped = ("join", join[2], join[1], "a")
-            self.assertIs(accepts_undecided("a", FIVE, ("a",), 0, ("none", joins[:at] + (swapped,) + joins[at + 1:])), False)
+            self.assertIs(
+                accepts_undecided("a", FIVE, ("a",), 0, ("none", joins[:at] + (swapped,) + joins[at + 1:])), False,
+            )
         # All words must be in: nothing is due, but the sides must be apart.
         every = ("", "a", "b", "ab")
         self.assertIs(accepts_undecided("ab", every, (), 0, ("none", ())), True)
@@ -397,11 +409,15 @@ class Evidence(unittest.TestCase):
                         self.assertIs(accepts_undecided(letters, sample, outside, k, value), good)
         self.assertGreater(min(told.values()), 20)
         one = ("ab", ((None, 0), ), (0,))
-        for value in (("some", "b" * 100, one, NONE), ("some", "b" * 101, one, NONE), ("some", "b", NONE, one), ("some", "c", one, NONE)):
+        for value in (
+            ("some", "b" * 100, one, NONE), ("some", "b" * 101, one, NONE), ("some", "b", NONE, one),
+            ("some", "c", one, NONE),
+        ):
             self.assertIs(accepts_undecided("ab", (), (), 0, value), value[1] == "b" * 100)
         for value in (
             ("some", "b", one), ("some", "b", one, NONE, ()), ("some", None, one, NONE), ("some", "b", list(one), NONE),
-            ["some", "b", one, NONE], ("open", one, NONE), ("Some", "b", one, NONE), ("some", ("b",), one, NONE), ("some", "b", one, EVERY),
+            ["some", "b", one, NONE], ("open", one, NONE), ("Some", "b", one, NONE), ("some", ("b",), one, NONE),
+            ("some", "b", one, EVERY),
         ):
             self.assertIs(accepts_undecided("ab", (), (), 0, value), False)
 
@@ -439,7 +455,10 @@ class Edges(unittest.TestCase):
                     self.assertEqual(self.raised(undecided_paper, "abcd", sample, outside, k), told)
                     self.assertIs(is_any_undecided("abcd", sample, outside, k), outside != sample[:1])
                     self.assertIs(accepts_undecided("abcd", sample, outside, k, None), False)
-                value = ("some", "d", seen_machine("abcd", oracles.in_order(sample + ("d",)), k), seen_machine("abcd", sample, k))
+                value = (
+                    "some", "d", seen_machine("abcd", oracles.in_order(sample + ("d",)), k),
+                    seen_machine("abcd", sample, k),
+                )
                 self.assertIs(accepts_undecided("abcd", sample, (), k, value), True)
 
     def sample_with(self, many, k):
@@ -462,7 +481,9 @@ class Edges(unittest.TestCase):
             "k": oddities.LOOKS, "length": [None, "1", -1, 201, 10 ** 30, (1,)],
         }
         names, right = ("letters", "sample", "outside", "k"), ("ab", ("a",), ("b",), 1)
-        for function in (is_any_undecided, first_undecided, undecided_paper, lambda *rest: accepts_undecided(*rest, None)):
+        for function in (
+            is_any_undecided, first_undecided, undecided_paper, lambda *rest: accepts_undecided(*rest, None),
+        ):
             oddities.check_wrong(self, function, names, right, wrong)
         oddities.check_wrong(self, count_undecided, names + ("length",), right + (3,), wrong)
 

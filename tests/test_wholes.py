@@ -257,7 +257,9 @@ class Evidence(unittest.TestCase):
                         at = chance.randrange(len(rows))
                         row = list(rows[at])
                         item = chance.randrange(len(row))
-                        row[item] = chance.choice((("on", "back", "ends"), whole.numbers, whole.numbers, whole.letters)[item])
+                        row[item] = chance.choice(
+                            (("on", "back", "ends"), whole.numbers, whole.numbers, whole.letters)[item],
+                        )
                         if (row[0] == "ends") != (len(row) == 3):
                             continue
                         rows[at] = tuple(row)
@@ -293,7 +295,8 @@ class Evidence(unittest.TestCase):
         for row in (
             ("ends", 1, 2), ("ends", 0, 3), ("ends", 1, 4), ("ends", -1, 3), ("ends", True, 3), ("ends", 1), ("ends",),
             ("ends", 1, 3, "a"), ("ends", 1, 3, None), ("Ends", 1, 3), ("on", 1, 3), ("back", 1, 3), ["ends", 1, 3],
-            ("on", 0, 0, "c"), ("on", 0, 0, ""), ("on", 0, 0, "aa"), ("on", 0, 0, 0), ("on", 0, 0, "b"), ("on", 0, 2, "a"),
+            ("on", 0, 0, "c"), ("on", 0, 0, ""), ("on", 0, 0, "aa"), ("on", 0, 0, 0), ("on", 0, 0, "b"),
+            ("on", 0, 2, "a"),
             ("back", 0, 1, "a"), ("back", 3, 3, "a"), ("starts", 0, 0), ("starts", 0, 0, "a"), ("on", 4, 4, "a"), (),
             ("on", 0, 0, "a", "a"), ("back", 2, 2, "b", ()), ("ends", 1, 3, "a", "a"),
             ("on", 0, False, "a"), ("on", 0.0, 0, "a"), ("on", "0", 0, "a"), ("ends", None, 3), (None, 1, 3),
@@ -344,7 +347,10 @@ class Evidence(unittest.TestCase):
         self.assertIs(judge(EVERY, "aa"), False)
         self.assertIs(judge(("abc", ((1, None, None), (2, None, None), (None, 1, None)), (1,)), "aa"), False)
         self.assertIs(judge(("ac", made[1], made[2]), "aa"), False)
-        for value in (("Free", made), ("must", made), (None, made), ("free", made, ()), ("free",), ["free", made], ("free", made, made)):
+        for value in (
+            ("Free", made), ("must", made), (None, made), ("free", made, ()), ("free",), ["free", made],
+            ("free", made, made),
+        ):
             self.assertIs(accepts_whole((TWO,), 0, "aa", value), False)
         self.assertIs(judge(list(made), "aa"), False)
         # Greater than the closure: it takes aaaa, too.
@@ -367,7 +373,9 @@ class Evidence(unittest.TestCase):
         told = {True: 0, False: 0}
         for machines in TWOS + [(machine,) for machine in AB]:
             for k in (0, 1):
-                for machine in (chance.choice(AB), closure_of(machines[0], k), together(*machines[:1], machines[-1], k)):
+                for machine in (
+                    chance.choice(AB), closure_of(machines[0], k), together(*machines[:1], machines[-1], k),
+                ):
                     for word in ("", "a", "ba", "aab"):
                         good = has_property(machine, k) and not takes(machine, word)
                         good = good and all(outside_word(one, machine) is None for one in machines)
@@ -422,7 +430,10 @@ class Edges(unittest.TestCase):
             whole, more = circle("a", 400 - k), circle("a", 400 - k + 1)
             half, rest = circle("a", 200 - k), circle("a", 200 - k + 1)
             fit = [(whole,), (whole, empty), (empty, whole), (half, half), (half, circle("a", 200 - k, (1,)))]
-            large = [(half, rest), (rest, half), (rest, rest), (whole, whole), (whole, chain("a", 1)), (chain("a", 1), whole)]
+            large = [
+                (half, rest), (rest, half), (rest, rest), (whole, whole), (whole, chain("a", 1)),
+                (chain("a", 1), whole),
+            ]
             for machines in fit:
                 self.assertEqual(sum(len(looked_states(machine, k)) for machine in machines), 400)
                 for call in self.functions(machines, k):
@@ -487,8 +498,12 @@ class Edges(unittest.TestCase):
             for function in (whole_classes, whole_joins):
                 oddities.check_wrong(self, function, names[:2], right[:2], wrong)
             oddities.check_wrong(self, whole_paper, names, right, wrong)
-            oddities.check_wrong(self, lambda machines, k, word: accepts_whole(machines, k, word, None), names, right, wrong)
-            oddities.check_wrong(self, lambda machines, k: accepts_whole_joins(machines, k, None), names[:2], right[:2], wrong)
+            oddities.check_wrong(
+                self, lambda machines, k, word: accepts_whole(machines, k, word, None), names, right, wrong,
+            )
+            oddities.check_wrong(
+                self, lambda machines, k: accepts_whole_joins(machines, k, None), names[:2], right[:2], wrong,
+            )
 
     def test_point_84_ahead_of_too_large(self):
         large = circle("a", 400)

@@ -186,7 +186,8 @@ class Tables(unittest.TestCase):
                     begins.add(begun)
                     rests.add(rest)
                 told = all(
-                    takes(machine, begun + rest) for begins, rests in by_lead.values() for begun in begins for rest in rests
+                    takes(machine, begun + rest)
+                    for begins, rests in by_lead.values() for begun in begins for rest in rests
                 )
                 self.assertTrue(told or not is_windowed(machine, k))
 
@@ -221,7 +222,8 @@ class Tables(unittest.TestCase):
         machine = ("ab", ((1, 1), (None, 1)), (0, 1))
         for many in (500, 501):
             for five in (
-                ("b" * many, "", "", "", "a"), ("b", "", "", "b" * many, "a"), ("b", "", "", "", "a" + "b" * (many - 1)),
+                ("b" * many, "", "", "", "a"), ("b", "", "", "b" * many, "a"),
+                ("b", "", "", "", "a" + "b" * (many - 1)),
             ):
                 self.assertIs(accepts_windowed(machine, 0, five), many == 500, five)
         pair = ("ab", ((0, 1), (1, 2), (2, 0)), (1,))
@@ -314,18 +316,22 @@ class Evidence(unittest.TestCase):
     def test_point_89_examples(self):
         sample = ("aba", "bab")
         for value, told in (
-            (("in", 0, ((0, 0), (0, 1)), 0), True), (("in", 0, ((1, 1), (1, 0)), 0), True), (("in", 1, ((0, 0), (0, 1)), 0), False),
-            (("in", 0, ((0, 0), (0, 0)), 0), False), (("in", 0, ((0, 0), (0, 1)), 1), False), (("in", 0, ((0, 0),), 0), False),
+            (("in", 0, ((0, 0), (0, 1)), 0), True), (("in", 0, ((1, 1), (1, 0)), 0), True),
+            (("in", 1, ((0, 0), (0, 1)), 0), False),
+            (("in", 0, ((0, 0), (0, 0)), 0), False), (("in", 0, ((0, 0), (0, 1)), 1), False),
+            (("in", 0, ((0, 0),), 0), False),
             (("in", 0, ((False, 0), (0, 1)), 0), False), (("in", False, ((0, 0), (0, 1)), 0), False),
             (("in", 0, ([0, 0], (0, 1)), 0), False), (("in", 0, ((0, 0), (0, True)), 0), False),
-            (("in", 0, ((0, 0), (0, 1)), None), False), (("in", 0, ((0, 0, 0), (0, 1)), 0), False), (("in", 0, (), 0), False),
+            (("in", 0, ((0, 0), (0, 1)), None), False), (("in", 0, ((0, 0, 0), (0, 1)), 0), False),
+            (("in", 0, (), 0), False),
         ):
             self.assertIs(accepts_window("ab", sample, 1, "aba", value), told, value)
 
     def test_point_89_items_too_many(self):
         sample = ("", "aba", "bab")
         for k, word, right in (
-            (1, "aab", ("out", 0)), (2, "aab", ("out", "first")), (1, "a", ("in", 1, (), 1)), (1, "", ("in", 0)), (2, "a", ("out", "short")),
+            (1, "aab", ("out", 0)), (2, "aab", ("out", "first")), (1, "a", ("in", 1, (), 1)), (1, "", ("in", 0)),
+            (2, "a", ("out", "short")),
         ):
             self.assertIs(accepts_window("ab", sample, k, word, right), True)
             for value in (right + (0,), right + ((),), right + (0, 0), right[:-1], right[:1], list(right), right[1:]):
@@ -339,7 +345,9 @@ class Evidence(unittest.TestCase):
             places = tuple((1, 700 - k - 1) for _ in range(500 - k))
             self.assertIs(accepts_window("ab", sample, k, "a" * 500, ("in", 1, places, 0)), True)
             self.assertIs(accepts_window("ab", sample, k, "a" * 500, ("in", 1, places[1:] + ((1, 700 - k),), 0)), False)
-            self.assertIs(accepts_window("ab", sample, k, "a" * 500, ("in", 1, places[1:] + ((1, 10 ** 30),), 0)), False)
+            self.assertIs(
+                accepts_window("ab", sample, k, "a" * 500, ("in", 1, places[1:] + ((1, 10 ** 30),), 0)), False,
+            )
             self.assertEqual(window_paper("ab", sample, k, "a" * 499 + "b")[0], "out")
 
     def test_points_88_89_and_8_values_of_any_kind(self):
@@ -449,7 +457,9 @@ class Edges(unittest.TestCase):
         )
         for function in (windows_of, is_windowed, windowed_against):
             oddities.check_wrong(self, function, ("machine", "k"), (EVEN, 1), wrong)
-        oddities.check_wrong(self, lambda machine, k: accepts_windowed(machine, k, None), ("machine", "k"), (EVEN, 1), wrong)
+        oddities.check_wrong(
+            self, lambda machine, k: accepts_windowed(machine, k, None), ("machine", "k"), (EVEN, 1), wrong,
+        )
 
     def test_point_90_ahead_of_too_large(self):
         self.assertTrue(oddities.is_refused(window_machine, ("ab", (distinct(1000),), 13), "k"))
