@@ -146,14 +146,14 @@ class Undecided(unittest.TestCase):
             sample = oracles.random_sample(chance, letters, chance.choice((1, 2, 3, 5)), chance.choice((2, 3, 4)))
             k = chance.choice((0, 1, 1, 2, 2, 3, 5, 11, 12))
             outside, words = (), iter(oracles.all_words(letters, {"a": 30, "ab": 7, "abc": 4}[letters]))
-            while len(outside) < 12:
+            while True:
                 found = first_undecided(letters, sample, outside, k)
                 slow = next((word for word in words if is_open(letters, sample, outside, k, word)), None)
                 if slow is not None or found is None:
                     self.assertEqual(found, slow, (letters, sample, outside, k))
                 self.assertIs(is_any_undecided(letters, sample, outside, k), found is not None)
                 lengths[-1 if found is None else len(found)] = True
-                if slow is None or len(found) > 12:
+                if slow is None or len(found) > 12 or len(outside) == 12:
                     break
                 self.assertTrue(is_open(letters, sample, outside, k, found))
                 length = chance.randint(0, MOST[letters])
@@ -161,7 +161,7 @@ class Undecided(unittest.TestCase):
                 told = sum(is_open(letters, sample, outside, k, word) for word in same_length)
                 self.assertEqual(count_undecided(letters, sample, outside, k, length), told)
                 outside = oracles.in_order(outside + (found,))
-        self.assertLessEqual(set(range(-1, 13)), set(lengths))
+        self.assertLessEqual(set(range(-1, 14)), set(lengths))
 
     def test_point_124_undecided_words_by_their_machines(self):
         for letters, sample, outside, k in SIDES[:60]:
@@ -228,6 +228,17 @@ class Undecided(unittest.TestCase):
                     for at in range(len(word)):
                         self.assertFalse(is_open("a", ("a" * many,), outside, 0, "a" * at))
         self.assertGreater(max(found), 12)
+
+    def test_point_126_a_new_way_that_is_longer_than_all_words_that_are_out(self):
+        outside = tuple("a" * many for many in range(1, 13))
+        for k in range(1, 13):
+            self.assertEqual(first_undecided("a", ("",), outside, k), "a" * 13)
+            self.assertEqual(count_undecided("a", ("",), outside, k, 12), 0)
+            self.assertEqual(count_undecided("a", ("",), outside, k, 13), 1)
+        # At the look 0 the empty word and any other one make all words of as many letters, and twice as many, and so on.
+        self.assertEqual(first_undecided("a", ("",), outside, 0), "a" * 13)
+        self.assertEqual(first_undecided("a", ("",), outside[:-1], 0), "a" * 12)
+        self.assertIsNone(first_undecided("a", ("", "a"), (), 0))
 
     def test_point_126_without_any_word(self):
         for letters in ("a", "ab", "abcd"):
