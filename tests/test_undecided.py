@@ -235,7 +235,7 @@ class Undecided(unittest.TestCase):
             self.assertEqual(first_undecided("a", ("",), outside, k), "a" * 13)
             self.assertEqual(count_undecided("a", ("",), outside, k, 12), 0)
             self.assertEqual(count_undecided("a", ("",), outside, k, 13), 1)
-        # At the look 0 the empty word and any other one make all words of as many letters, and twice as many, and so on.
+        # At the look 0 one word more makes all words of as many letters, of twice as many, and so on.
         self.assertEqual(first_undecided("a", ("",), outside, 0), "a" * 13)
         self.assertEqual(first_undecided("a", ("",), outside[:-1], 0), "a" * 12)
         self.assertIsNone(first_undecided("a", ("", "a"), (), 0))
