@@ -14,13 +14,11 @@ def need_case(letters, sample, k, word):
     need_word(letters, word, MOST_JUDGED_LETTERS)
 
 
-def case_of(letters, sample, k, word):
-    """Return the case of the word."""
-    need_case(letters, sample, k, word)
-    grower = Grower(letters, sample, k)
+def case_by(grower, word):
+    """Return the case of a word for the sample whose seen machine is grown."""
     if grower.seen.has_word(word):
         return ("taken",)
-    if len(sample) == 0:
+    if len(grower.states) == 0:
         return "alone", word
     _, rest = grower.way_out(word)
     begun = word[:len(word) - len(rest)]
@@ -30,6 +28,12 @@ def case_of(letters, sample, k, word):
     _, behind = grower.way_back(word, end, len(rest))
     between = rest[:len(rest) - len(behind)]
     return ("join", begun, behind) if between == "" else ("way", begun, between, behind)
+
+
+def case_of(letters, sample, k, word):
+    """Return the case of the word."""
+    need_case(letters, sample, k, word)
+    return case_by(Grower(letters, sample, k), word)
 
 
 def changed(letters, sample, k, word):

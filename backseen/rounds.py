@@ -98,11 +98,16 @@ def words_by_round(letters, sample, k, most):
     return tuple(found)
 
 
-def rows_for(letters, sample, k, word):
-    """Return evidence by rows for the word."""
+def need_rows_question(letters, sample, k, word):
+    """Refuse wrong parameters of a question for evidence by rows, the first wrong one first."""
     need_short_sample(letters, sample)
     need_look(k)
     need_word(letters, word, MOST_LISTED_LETTERS)
+
+
+def rows_for(letters, sample, k, word):
+    """Return evidence by rows for the word."""
+    need_rows_question(letters, sample, k, word)
     seen = Seen(letters, sample, k)
     if not seen.has_word(word):
         raise NotPossible("word")
@@ -140,18 +145,21 @@ def word_of_row(sample, words, k, row):
     return word_of_step(words, k, row)
 
 
-def accepts_rows(letters, sample, k, word, value):
-    """Tell whether the value is evidence by rows for the word."""
-    need_short_sample(letters, sample)
-    need_look(k)
-    need_word(letters, word, MOST_LISTED_LETTERS)
+def words_of_rows(sample, k, word, value):
+    """Return the list of the words of the rows, or None if the value is not evidence by rows for the word."""
     if not is_tuple_of(value, 1, MOST_ROWS):
-        return False
+        return None
     most = max(len(word), longest_in(sample))
     words = []
     for row in value:
         made = word_of_row(sample, words, k, row)
         if made is None or len(made) > most:
-            return False
+            return None
         words.append(made)
-    return words[-1] == word
+    return words if words[-1] == word else None
+
+
+def accepts_rows(letters, sample, k, word, value):
+    """Tell whether the value is evidence by rows for the word."""
+    need_rows_question(letters, sample, k, word)
+    return words_of_rows(sample, k, word, value) is not None

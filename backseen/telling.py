@@ -7,8 +7,7 @@ from backseen.machines import first_words_of, is_machine, is_taken, last_words_o
 from backseen.needing import Cuts, without_word
 from backseen.seen import Seen
 from backseen.words import (
-    MOST_SAMPLE_LETTERS, MOST_SAMPLE_WORDS, alike, is_integer_within, is_over, is_tuple_of, need_look, need_sample,
-    need_word, word_place,
+    alike, is_integer_within, is_over, is_sample, is_tuple_of, need_look, need_sample, need_word, word_place,
 )
 
 
@@ -40,10 +39,8 @@ def telling_number(machine, k):
     return telling_number_of(Looked(least_of_look(machine, k), k))
 
 
-def first_sample_of(looked):
-    """Return the first sample of a language with these looked states, which has to be a sample."""
-    if telling_number_of(looked) > MOST_SAMPLE_WORDS:
-        raise TooLarge("words")
+def words_of_first_sample(looked):
+    """Return the ascending tuple of the words of the first sample, be it a sample or not."""
     machine = looked.letters, looked.rows, looked.ends
     firsts, lasts = first_words_of(machine), last_words_of(machine)
     words = [firsts[end] for end in looked.ends]
@@ -51,9 +48,15 @@ def first_sample_of(looked):
         for letter, target in zip(looked.letters, row):
             if target is not None and first + letter != firsts[target]:
                 words.append(first + letter + lasts[target])
-    if sum([len(word) for word in words]) > MOST_SAMPLE_LETTERS:
-        raise TooLarge("words")
     return tuple(sorted(words, key=word_place))
+
+
+def first_sample_of(looked):
+    """Return the first sample of a language with these looked states, which has to be a sample."""
+    words = words_of_first_sample(looked)
+    if not is_sample(looked.letters, words):
+        raise TooLarge("words")
+    return words
 
 
 def first_sample(machine, k):
