@@ -351,8 +351,8 @@ class Rows(unittest.TestCase):
 
     def test_point_162_reversed_rows(self):
         tried = 0
-        for letters, sample in [("abc", sample) for sample in oracles.random_samples(161, 25, "abc", 4, 4)] + [
-            ("ab", sample) for sample in oracles.random_samples(163, 40, "ab", 4, 5)
+        for letters, sample in [("abc", sample) for sample in oracles.random_samples(161, 25, "abc", 6, 3)] + [
+            ("ab", sample) for sample in oracles.random_samples(163, 50, "ab", 5, 4)
         ]:
             for k in (0, 1, 2):
                 words = [word for word in few((letters,), 1) if is_must(letters, sample, k, word)]
