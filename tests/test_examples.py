@@ -15,8 +15,8 @@ class Examples(unittest.TestCase):
             [
                 f"{name}.txt"
                 for name in (
-                    "building cases comparing counting errors looking papers rounds sides single telling towers"
-                    " undecided windows words"
+                    "building cases comparing counting errors fewest learning looking mirrors papers rounds scanning"
+                    " sides single teaching telling towers undecided windows words writing"
                 ).split()
             ],
         )

@@ -45,6 +45,26 @@ INTERFACE = {
     "telling": "telling_number first_sample tells thinned is_needed needed_words needed_paper accepts_needed",
     "counting": "count_at count_up_to nth_word count_before index_of longest_word loop_of is_narrow growth_degree"
                 " growth_evidence accepts_growth",
+    "teaching": "tells_paper accepts_tells teaching",
+    "learning": "Learner first_missing learned shown_words",
+    "mirrors": "reversed_machine reversed_sample rest_of completed_by renamed replaced_back reversed_rows",
+    "scanning": "scan",
+    "reading": "next_tokens read_sample read_machine read_paper read_records",
+    "writing": "sample_text machine_text paper_text records_text",
+    "desk": "Desk",
+    "journals": "replayed",
+    "records": "are_right",
+    "fewest": "fewest_papers fewest_records",
+}
+CLASSES = {
+    "Learner": {
+        "__init__": "letters k", "add": "word", "take_back": "word", "takes": "word", "words": "", "machine": "", "log": "",
+        "twin": "",
+    },
+    "Desk": {
+        "__init__": "letters k", "act": "command", "undo": "", "twin": "", "words": "", "asked": "", "look": "",
+        "letters": "", "began": "", "journal": "", "verdict": "word", "paper": "word", "open_word": "", "records": "",
+    },
 }
 
 
@@ -67,6 +87,15 @@ def trees():
 
 def functions(tree):
     return [node for node in ast.walk(tree) if isinstance(node, ast.FunctionDef)]
+
+
+def is_plain(node):
+    """Whether what is written there is a constant, or a tuple or a dict of constants."""
+    if isinstance(node, ast.Tuple):
+        return all(is_plain(item) for item in node.elts)
+    if isinstance(node, ast.Dict):
+        return all(isinstance(item, ast.Constant) for item in node.keys + node.values)
+    return isinstance(node, ast.Constant)
 
 
 def bound_names(function):
@@ -108,7 +137,9 @@ class Language(unittest.TestCase):
                     (path, node.lineno),
                 )
                 if isinstance(node, ast.Assign):
-                    self.assertIsInstance(node.value, ast.Constant, (path, node.lineno))
+                    self.assertTrue(is_plain(node.value), (path, node.lineno))
+                    self.assertEqual(len(node.targets), 1)
+                    self.assertIsInstance(node.targets[0], ast.Name)
 
     def test_imports_name_the_file_that_defines_the_name_and_are_used(self):
         defined = {}
@@ -199,7 +230,7 @@ class Language(unittest.TestCase):
                 if isinstance(node, ast.Attribute) and isinstance(node.ctx, ast.Store):
                     own.add(node.attr)
         of_builtins = {name for kind in (str, int, list, dict, set, bytes, tuple) for name in dir(kind)}
-        self.assertEqual({name for name in own & of_builtins if name != "__init__"}, set())
+        self.assertEqual(own & of_builtins, {"__init__", "add"})
         for path, tree in trees():
             for node in ast.walk(tree):
                 if isinstance(node, ast.Attribute) and node.attr not in own:
@@ -279,14 +310,36 @@ class Interface(unittest.TestCase):
             "accepts_undecided": "letters sample outside k value", "telling_number": "machine k",
             "first_sample": "machine k", "tells": "machine k sample", "thinned": "machine k sample",
             "is_needed": "machine k word", "needed_words": "machine k", "needed_paper": "machine k word",
-            "accepts_needed": "machine k word value",
+            "accepts_needed": "machine k word value", "tells_paper": "machine k sample",
+            "accepts_tells": "machine k sample value", "teaching": "machine", "first_missing": "machine k sample",
+            "learned": "letters sample outside", "shown_words": "machine k sample", "reversed_machine": "machine",
+            "reversed_sample": "letters sample", "rest_of": "machine word", "completed_by": "machine word",
+            "renamed": "machine names", "replaced_back": "machine letters words",
+            "reversed_rows": "letters sample k word rows", "scan": "text", "next_tokens": "text", "read_sample": "text",
+            "read_machine": "text", "read_paper": "text", "read_records": "text", "sample_text": "letters sample",
+            "machine_text": "machine", "paper_text": "letters paper", "records_text": "letters k records",
+            "replayed": "letters k journal", "are_right": "letters k records", "fewest_papers": "letters k journal",
+            "fewest_records": "letters k journal",
         }
         names = {name for module, names in INTERFACE.items() if module != "errors" for name in names.split()}
-        self.assertEqual(set(told), names)
+        self.assertEqual(set(told), names - set(CLASSES))
         for module in INTERFACE:
             for node in ast.parse(source(os.path.join(PACKAGE, module + ".py"))).body:
                 if isinstance(node, ast.FunctionDef) and node.name in told:
                     self.assertEqual(" ".join(argument.arg for argument in node.args.args), told[node.name])
+
+    def test_points_151_and_192_the_methods_stand_in_their_classes(self):
+        found = {}
+        for module in INTERFACE:
+            for node in ast.parse(source(os.path.join(PACKAGE, module + ".py"))).body:
+                if isinstance(node, ast.ClassDef) and node.name in CLASSES:
+                    found[node.name] = {
+                        item.name: " ".join(argument.arg for argument in item.args.args[1:])
+                        for item in node.body if isinstance(item, ast.FunctionDef)
+                    }
+        self.assertEqual(set(found), set(CLASSES))
+        for name, methods in CLASSES.items():
+            self.assertEqual({method: found[name].get(method) for method in methods}, methods)
 
 
 if __name__ == "__main__":
