@@ -70,7 +70,7 @@ class Moment:
             return "many"
         return "full" if self.many == MOST_COMMANDS else None
 
-    def behind(self, command):
+    def after(self, command):
         """Return the moment behind a command that is possible."""
         deed, word = command[0], command[-1]
         words_in, words_out, asked, look = self.words_in, self.words_out, self.asked, self.look
@@ -98,7 +98,7 @@ def moment_behind(moment, command):
     reason = moment.reason_against(command)
     if reason is not None:
         raise NotPossible(reason)
-    return moment.behind(command)
+    return moment.after(command)
 
 
 def moments_of(k, journal):

@@ -23,8 +23,11 @@ def words_in_every(samples):
 
 def sides_of_all(moments, verdict):
     """Return two sides and a look: a paper with this verdict that is right for them is right at all the moments."""
-    together, look = (words_in_some, moments[0].look) if verdict == "open" else (words_in_every, moments[-1].look)
-    return together([moment.words_in for moment in moments]), together([moment.words_out for moment in moments]), look
+    inside = [moment.words_in for moment in moments]
+    outside = [moment.words_out for moment in moments]
+    if verdict == "open":
+        return words_in_some(inside), words_in_some(outside), moments[0].look
+    return words_in_every(inside), words_in_every(outside), moments[-1].look
 
 
 def lasts(letters, moments, word):

@@ -55,9 +55,10 @@ def text_part():
 
 
 def tokens_ahead(part):
-    """Return a dict that has, for each token with which the part can begin, the part that then stands behind it."""
-    if len(part) == 0:
-        return {}
+    """Return a dict that has, for each token with which the part can begin, the part that then stands behind it.
+
+    At the end of the part stands the end of a text, so it is never empty.
+    """
     item, behind = part[0], part[1:]
     if type(item) == str:
         return {item: behind}

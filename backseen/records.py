@@ -28,7 +28,7 @@ def are_right(letters, k, records):
         command, fresh = record
         if moment.reason_against(command) is not None:
             return False
-        moment = moment.behind(command)
+        moment = moment.after(command)
         if not are_numbered(fresh, len(moment.asked)):
             return False
         for number, paper in fresh:

@@ -213,6 +213,7 @@ class Learners(unittest.TestCase):
         self.assertEqual(self.state(twin), middle)
         third = twin.twin()
         third.add("aab")
+        self.assertEqual(third.log()[-1][4], twin.log()[-1][5])
         self.assertEqual(self.state(twin), middle)
         self.assertTrue(oddities.is_refused(third.add, ("c",), "word"))
         self.assertEqual(third.twin().log(), third.log())

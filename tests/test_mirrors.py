@@ -250,7 +250,7 @@ class Renamed(unittest.TestCase):
     def test_point_165_names_in_any_order_and_wrong_ones(self):
         wrong = {
             "machine": oddities.MACHINES + [chain("a", 401)],
-            "names": ["", "a", "aa", "abc", "aB", "a1", "a ", None, 0, ("a", "b"), ["a", "b"], "zz", "\u00e9a"],
+            "names": ["", "a", "aa", "aba", "aab", "abab", "abc", "aB", "a1", "a ", None, 0, ("a", "b"), ["a", "b"], "zz", "\u00e9a"],
         }
         oddities.check_wrong(self, renamed, ("machine", "names"), (LAST, "zc"), wrong)
         for machine, names in ((("abc", (), ()), ("ab", "abcd", "aab")), (("a", ((0,),), (0,)), ("", "ab"))):

@@ -124,7 +124,7 @@ class Evidence(unittest.TestCase):
             _, rows, ways = paper
             more = rows + rows + tuple(("ends", word, word) for word in sample if len(word) >= k)
             self.assertIs(accepts_tells(machine, k, sample, ("tells", more, ways)), True)
-            for at in range(len(rows)):
+            for at in chance.sample(range(len(rows)), min(len(rows), 5)):
                 other = list(rows)
                 other.insert(chance.randrange(len(rows)), other.pop(at))
                 for value in (("tells", tuple(other), ways), ("tells", rows[:at] + rows[at + 1:], ways)):

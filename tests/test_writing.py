@@ -168,7 +168,7 @@ class Wrong(unittest.TestCase):
             ("clash", "a", way), ("clash", "a", (), way, ()), ("clash", ("a",), (), way), ("free",), ("free", None),
             ("free", ("a", (), ())), ("free", EVEN, EVEN), ("free", chain("ab", 401)), ("free", list(EVEN)),
             ("open", EVEN), ("open", EVEN, ("abc", (), ())), ("open", ("a", (), ()), EVEN), ("open", EVEN, EVEN, EVEN),
-            ("open", EVEN, None), ("free", ("ab", ((True, None),), (0,))), ("open", EVEN, ("ab", ((0, 0),), (False,))),
+            ("opened", EVEN, EVEN), ("", NONE, NONE), ("open", EVEN, None), ("free", ("ab", ((True, None),), (0,))), ("open", EVEN, ("ab", ((0, 0),), (False,))),
         ]
         for odd in oddities.oddities():
             found += [odd, (odd,), ("must", odd, way), ("must", (), odd), ("must", (odd,), way), ("must", (), (odd,))]
