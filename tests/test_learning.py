@@ -424,6 +424,23 @@ class Shown(unittest.TestCase):
             self.assertEqual(shown_words(least_of(machine), k, sample), shown)
         self.assertLess({0, 1, 2, 3, 4}, set(numbers))
 
+    def test_points_138_and_154_the_first_missing_word_is_in_the_first_sample(self):
+        missing = {}
+        for machine, k in OF_LOOK[:150]:
+            first, words = first_sample(machine, k), words_of(machine)
+            for many in range(5):
+                sample = oracles.in_order(chance.sample(words, min(many, len(words))))
+                word = first_missing(machine, k, sample)
+                if word is not None:
+                    self.assertIn(word, first)
+                    missing[first.index(word)] = True
+            held, shown = (), ()
+            while first_missing(machine, k, held) is not None:
+                shown += (first_missing(machine, k, held),)
+                held = oracles.in_order(shown)
+            self.assertEqual(shown, first)
+        self.assertGreater(len(missing), 2)
+
     def test_point_156_the_words_of_the_language_ahead(self):
         for machine, k in OF_LOOK[:80]:
             words = words_of(machine)

@@ -57,7 +57,7 @@ class Writing(unittest.TestCase):
                 same += one == other
         self.assertGreater(same, 200)
 
-    def test_points_186_and_187_papers(self):
+    def test_points_178_186_and_187_papers(self):
         for letters in ALPHABETS:
             for _ in range(80):
                 paper = texts.random_paper(chance, letters)
@@ -76,7 +76,7 @@ class Writing(unittest.TestCase):
             self.assertEqual(paper_text("ab", paper), text)
             self.assertEqual(read_paper(text), ("ab", paper))
 
-    def test_points_186_and_187_records(self):
+    def test_points_178_186_and_187_records(self):
         for letters in ALPHABETS:
             for _ in range(60):
                 k, records = chance.randint(0, 12), texts.random_records(chance, letters)
@@ -177,7 +177,7 @@ class Wrong(unittest.TestCase):
             found += [("must", ((odd, "a", "b"),), way)]
         return found
 
-    def test_point_188_wrong_papers(self):
+    def test_points_178_and_188_wrong_papers(self):
         for paper in self.papers():
             self.assertTrue(oddities.is_refused(paper_text, ("ab", paper), "paper"))
         wrong = {"letters": oddities.LETTERS, "paper": [("must", (), ("c",)), ("must", (), ("b" * 30000, "c"))]}
@@ -187,7 +187,7 @@ class Wrong(unittest.TestCase):
         self.assertTrue(oddities.is_refused(paper_text, ("abc", ("free", NONE)), "paper"))
         self.assertEqual(paper_text("abc", ("must", (), ("a",))), "MUST abc: WAY a")
 
-    def test_point_188_wrong_records(self):
+    def test_points_178_and_188_wrong_records(self):
         paper = ("must", (), ("",))
         right = (("ask", "a"), ((0, paper),))
         values = [
