@@ -459,7 +459,8 @@ class Wrong(unittest.TestCase):
         desk = carried_out("ab", 0, (("in", "a"), ("ask", "b"), ("out", "bb")))
         before = everything(desk)
         commands = oddities.oddities() + [
-            None, "", "raise", "in", ("in",), ("out",), ("back",), ("ask",), ("raise", ""), ("raise", "a"), ("raise", None),
+            None, "", "raise", "in", ("in",), ("out",), ("back",), ("ask",), ("raise", ""), ("raise", "a"),
+            ("raise", None),
             ("in", "c"), ("in", "A"), ("in", None), ("in", 0), ("in", ("a",)), ("in", "a", "a"), ("In", "a"), ("", "a"),
             ("take", "a"), ("asked", "a"), ("undo",), (None, "a"), (0, "a"), (("in",), "a"), ["in", "b"], ["raise"],
             ("in", ["b"]), (), ((),), ("in", "b" * 13), ("out", "b" * 13), ("back", "b" * 13), ("ask", "b" * 101),

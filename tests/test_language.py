@@ -58,7 +58,8 @@ INTERFACE = {
 }
 CLASSES = {
     "Learner": {
-        "__init__": "letters k", "add": "word", "take_back": "word", "takes": "word", "words": "", "machine": "", "log": "",
+        "__init__": "letters k", "add": "word", "take_back": "word", "takes": "word", "words": "", "machine": "",
+        "log": "",
         "twin": "",
     },
     "Desk": {

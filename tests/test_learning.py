@@ -383,7 +383,8 @@ class Missing(unittest.TestCase):
         for machine, _ in OF_LOOK[:80]:
             k, words, word = teaching(machine)
             for _ in range(2):
-                sample = oracles.in_order(words + tuple(chance.sample(words_of(machine), min(3, len(words_of(machine))))))
+                more = chance.sample(words_of(machine), min(3, len(words_of(machine))))
+                sample = oracles.in_order(words + tuple(more))
                 others = [other for other in few(machine) if not takes(machine, other)]
                 out = oracles.in_order(
                     chance.sample(others, min(3, len(others))) + ([] if word is None else [word]),

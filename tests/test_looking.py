@@ -6,7 +6,7 @@ import unittest
 
 from backseen.comparing import common
 from backseen.looking import accepts_five, clashes, five_against, has_property, is_of_look, pairs_back
-from backseen.machines import first_words, least_of, machine_from, takes, tree_of
+from backseen.machines import first_words, least_of, takes, tree_of
 import oddities
 import oracles
 from oddities import EVEN, EVERY, NONE, chain, circle

@@ -79,7 +79,8 @@ class Reversed(unittest.TestCase):
                 self.assertEqual(len(reversed_machine(machine)[1]), many)
         # Ahead of the last letters: the words whose n-th letter is an a have few states, read backward they have many.
         for many, told in ((7, None), (8, "states"), (9, "states"), (300, "states")):
-            machine = ("ab", tuple((at + 1,) * 2 for at in range(many)) + ((many + 1, None), (many + 1,) * 2), (many + 1,))
+            rows = tuple((at + 1,) * 2 for at in range(many)) + ((many + 1, None), (many + 1,) * 2)
+            machine = ("ab", rows, (many + 1,))
             self.assertEqual(raised(reversed_machine, machine), told)
             if told is None:
                 self.assertEqual(len(reversed_machine(machine)[1]), 2 ** (many + 1))
@@ -224,7 +225,7 @@ class Rests(unittest.TestCase):
 
 class Renamed(unittest.TestCase):
     def test_point_160_renamed_letters(self):
-        names_of = {1: ("a", "z", "q"), 2: ("ab", "ba", "zc", "cz", "bx"), 3: ("abc", "cab", "zqa"), 4: ("dcba", "qrst")}
+        names_of = {1: ("a", "z", "q"), 2: ("ab", "ba", "zc", "cz", "bx"), 3: ("abc", "cab", "zqa")}
         for machine in MACHINES:
             for names in names_of[len(machine[0])]:
                 made = renamed(machine, names)
@@ -252,7 +253,10 @@ class Renamed(unittest.TestCase):
     def test_point_165_names_in_any_order_and_wrong_ones(self):
         wrong = {
             "machine": oddities.MACHINES + [chain("a", 401)],
-            "names": ["", "a", "aa", "aba", "aab", "abab", "abc", "aB", "a1", "a ", None, 0, ("a", "b"), ["a", "b"], "zz", "\u00e9a"],
+            "names": [
+                "", "a", "aa", "aba", "aab", "abab", "abc", "aB", "a1", "a ", None, 0, ("a", "b"), ["a", "b"], "zz",
+                "\u00e9a",
+            ],
         }
         oddities.check_wrong(self, renamed, ("machine", "names"), (LAST, "zc"), wrong)
         for machine, names in ((("abc", (), ()), ("ab", "abcd", "aab")), (("a", ((0,),), (0,)), ("", "ab"))):
@@ -335,7 +339,8 @@ class Replaced(unittest.TestCase):
         wrong = {
             "machine": oddities.MACHINES + [chain("a", 401)], "letters": oddities.LETTERS,
             "words": [
-                (), ("a",), ("a", "b", "a"), ["a", "b"], ("a", "c"), ("x", "a"), ("a", None), ("a", ("b",)), "ab", None, 0,
+                (), ("a",), ("a", "b", "a"), ["a", "b"], ("a", "c"), ("x", "a"), ("a", None), ("a", ("b",)), "ab",
+                None, 0,
                 ("a" * 25, "a"), ("a", "b" * 25), (None, "a"), ("a", 1), ("a", True),
             ],
         }
@@ -400,9 +405,8 @@ class Rows(unittest.TestCase):
                     for c in range(3):
                         for i in range(-1, 5):
                             rows = tuple(("seen", word) for word in sample) + (("by", a, b, c, i),)
-                            good = [word for word in oracles.all_words("a", 6) if accepts_rows("a", sample, k, word, rows)]
                             for word in oracles.all_words("a", 6):
-                                if word in good:
+                                if accepts_rows("a", sample, k, word, rows):
                                     self.check("a", sample, k, word, rows)
                                     tried += 1
                                 else:
@@ -419,7 +423,8 @@ class Rows(unittest.TestCase):
             "rows": [
                 None, (), rows[:3], rows[1:], rows[::-1], list(rows), rows + (None,), (list(rows[0]),) + rows[1:],
                 rows[:3] + (("by", 0, 1, 2, 1),), rows[:3] + (("by", 1, 0, 2, 2),), rows[:3] + (("by", 0, 1, 3, 2),),
-                rows[:3] + (("by", 0, 1, 2, True),), (("seen", "bba"),), rows + rows[:1], "", 0, (("seen", "ab"),) * 2501,
+                rows[:3] + (("by", 0, 1, 2, True),), (("seen", "bba"),), rows + rows[:1], "", 0,
+                (("seen", "ab"),) * 2501,
             ],
         }
         names = ("letters", "sample", "k", "word", "rows")

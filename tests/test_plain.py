@@ -24,6 +24,7 @@ WORDS_B = ("ab", ((1, 2), (None, 2), (None, None)), (2,))
 STARS = ("ab", ((1, None), (2, None), (None, 1)), (1,))
 STEP = (("seen", "ab"), ("seen", "bb"), ("seen", "aba"), ("by", 0, 1, 2, 2))
 JOURNAL = (("in", ""), ("in", "aa"), ("ask", "aaa"), ("out", "aaaaa"), ("raise",))
+CLOSED = ("a", ("", "aaaaa"), ("a",), 0)
 RECORDS = journals.replayed("a", 0, JOURNAL).records()
 CALLS = [
     (words.is_letters, "ab"), (words.is_word, "ab", "c"), (words.is_look, 1), (words.is_sample, "ab", ("a",)),
@@ -88,7 +89,8 @@ CALLS = [
     (learning.learned, "ab", ("a", "aab"), ("aabab",)), (learning.learned, "ab", ("a",), ("a",)),
     (learning.shown_words, STARS, 0, ()), (learning.shown_words, STARS, 0, ("a", "aab")),
     (mirrors.reversed_machine, SIX), (mirrors.reversed_sample, "ab", SAMPLE), (mirrors.rest_of, SIX, "ab"),
-    (mirrors.completed_by, SIX, "ab"), (mirrors.renamed, SIX, "zc"), (mirrors.replaced_back, SIX, "xyz", ("a", "ab", "")),
+    (mirrors.completed_by, SIX, "ab"), (mirrors.renamed, SIX, "zc"),
+    (mirrors.replaced_back, SIX, "xyz", ("a", "ab", "")),
     (mirrors.reversed_rows, "ab", ("ab", "bb", "aba"), 1, "bba", STEP), (scanning.scan, "ON -,ab: 12*"),
     (reading.next_tokens, "MACHINE ab: a 1"), (reading.read_sample, "SAMPLE ab: -, b"),
     (reading.read_machine, "MACHINE ab: * a 1 b 0; a 0 b 1"), (reading.read_paper, "MUST a: ENDS -, a; WAY -, -"),
@@ -122,7 +124,7 @@ JUDGED = [
     (sides.accepts_least_apart, SIDES, sides.least_apart_paper(*SIDES)),
     (towers.accepts_tower, (*SIDES, "abbb"), towers.tower_paper(*SIDES, "abbb")),
     (undecided.accepts_undecided, (*SIDES, 1), undecided.undecided_paper(*SIDES, 1)),
-    (undecided.accepts_undecided, ("a", ("", "aaaaa"), ("a",), 0), undecided.undecided_paper("a", ("", "aaaaa"), ("a",), 0)),
+    (undecided.accepts_undecided, CLOSED, undecided.undecided_paper(*CLOSED)),
     (telling.accepts_needed, (EVERY, 2, "a"), telling.needed_paper(EVERY, 2, "a")),
     (telling.accepts_needed, (EVERY, 0, "a"), telling.needed_paper(EVERY, 0, "a")),
     (teaching.accepts_tells, (EVEN, 0, ("", "b", "aa", "aba")), teaching.tells_paper(EVEN, 0, ("", "b", "aa", "aba"))),
@@ -140,8 +142,10 @@ FORMS = (words.is_letters, words.is_look, words.is_word, words.is_sample, machin
 
 
 def spoiled(value):
-    """The value with one thing in it of another kind: a list or an odd tuple for a tuple, a truth or a float for a number,
-    an odd text for a text."""
+    """The value with one thing in it of another kind.
+
+    A list or an odd tuple stands for a tuple, a truth or a float for a number, an odd text for a text.
+    """
     if type(value) is tuple:
         yield list(value)
         yield oddities.OddTuple(value)
@@ -246,7 +250,8 @@ class Plain(unittest.TestCase):
 
     def test_points_2_and_8_forms_with_one_thing_of_another_kind(self):
         for function, *ahead, value in (
-            (words.is_letters, "ab"), (words.is_look, 1), (words.is_word, "ab", "ba"), (words.is_sample, "ab", ("a", "ba")),
+            (words.is_letters, "ab"), (words.is_look, 1), (words.is_word, "ab", "ba"),
+            (words.is_sample, "ab", ("a", "ba")),
             (machines.is_machine, SIX),
         ):
             self.assertIs(function(*ahead, value), True)

@@ -182,7 +182,8 @@ class Problems(unittest.TestCase):
 
     def test_points_182_and_183_the_grammar_comes_ahead_of_the_rest(self):
         for name, text, column in (
-            ("SAMPLE", "SAMPLE ba: c, c,", 16), ("MACHINE", "MACHINE aa: b 7 7", 16), ("PAPER", "MUST -: WAY b, c, ,", 18),
+            ("SAMPLE", "SAMPLE ba: c, c,", 16), ("MACHINE", "MACHINE aa: b 7 7", 16),
+            ("PAPER", "MUST -: WAY b, c, ,", 18),
             ("RECORDS", "RECORDS abcde 13: IN z OUT", 26),
         ):
             self.assertEqual(problem_of(name, text)[0], column)
@@ -190,7 +191,8 @@ class Problems(unittest.TestCase):
 
     def test_point_183_letters(self):
         for name, ahead, behind in (
-            ("SAMPLE", "SAMPLE ", ":"), ("MACHINE", "MACHINE ", ":"), ("PAPER", "FREE ", ":"), ("PAPER", "OPEN ", ": |"),
+            ("SAMPLE", "SAMPLE ", ":"), ("MACHINE", "MACHINE ", ":"), ("PAPER", "FREE ", ":"),
+            ("PAPER", "OPEN ", ": |"),
             ("PAPER", "MUST ", ": WAY -"), ("PAPER", "NOT ", ": -; WAY -"), ("RECORDS", "RECORDS ", " 0:"),
         ):
             for letters in ("-", "ba", "aa", "abcde", "zz", "abb", "a" * 300):
@@ -248,7 +250,8 @@ class Problems(unittest.TestCase):
         arrow, order = "an arrow has one of the letters", "the letters of a state do not ascend"
         such, end = "there is no such state", "this state leads to no end"
         for text, problem in (
-            ("a 2 b 1; *; *", (14, next_new)), ("* a 1; a 1", (19, end)), ("*; *", (15, lead)), ("* a 0; *", (19, lead)),
+            ("a 2 b 1; *; *", (14, next_new)), ("* a 1; a 1", (19, end)), ("*; *", (15, lead)),
+            ("* a 0; *", (19, lead)),
             ("* c 0", (14, arrow)), ("* ab 0", (14, arrow)), ("* - 0", (14, arrow)), ("* b 0 a 0", (18, order)),
             ("* a 0 a 0", (18, order)), ("* a 1", (16, such)), ("* a 9999", (16, such)), ("a 0", (12, end)),
             ("a 0; *", (17, lead)), ("a 1; a 0", (12, end)), ("* b 1 a 7; c 3", (16 + 2, order)),
@@ -291,13 +294,16 @@ class Problems(unittest.TestCase):
     def test_point_184_a_state_that_leads_to_no_end_at_last(self):
         end = "this state leads to no end"
         for name, text, problem in (
-            ("PAPER", "OPEN a: a 0 | b 0", (14, "an arrow has one of the letters")), ("PAPER", "OPEN a: a 0 | a 0", (8, end)),
+            ("PAPER", "OPEN a: a 0 | b 0", (14, "an arrow has one of the letters")),
+            ("PAPER", "OPEN a: a 0 | a 0", (8, end)),
             ("PAPER", "OPEN a: * | a 0", (12, end)), ("PAPER", "OPEN a: | * a 1; a 1", (17, end)),
             ("PAPER", "FREE a: * a 1; a 1", (15, end)),
             ("RECORDS", "RECORDS a 0: RAISE PAPER 0 OPEN a 0 | * IN a", (32, end)),
             ("RECORDS", "RECORDS a 0: RAISE PAPER 0 OPEN a 0 | * IN b", (43, texts.OTHER)),
             ("RECORDS", "RECORDS a 0: RAISE PAPER 0 OPEN * | * PAPER 1 OPEN | a 0 PAPER 2 OPEN a 0 |", (53, end)),
-            ("RECORDS", "RECORDS a 0: RAISE PAPER 0 OPEN * | a 0 IN aaaaaaaaaaaaa", (43, "a word has more than 12 letters")),
+            ("RECORDS", "RECORDS a 0: RAISE PAPER 0 OPEN * | a 0 IN aaaaaaaaaaaaa", (
+                43, "a word has more than 12 letters",
+            )),
         ):
             self.assertEqual(problem_of(name, text), problem, text)
             self.assertEqual(texts.plain_read(name, text), problem, text)
@@ -310,7 +316,8 @@ class Problems(unittest.TestCase):
             ("MUST ab: ON a, b, c; WAY a", (18, letter)), ("MUST ab: ON a, b, -; WAY a", (18, letter)),
             ("MUST ab: BACK a, b, ab; WAY a", (20, letter)), ("MUST ab: BACK c, b, ab; WAY a", (14, texts.OTHER)),
             ("NOT ab: c; WAY c", (8, texts.OTHER)), ("CLASH ab: abc; WAY c", (10, texts.OTHER)),
-            ("CLASH ab: ab; ON a, a, aa; WAY c", (23, letter)), ("FREE ab: * ab 0", (11, "an arrow has one of the letters")),
+            ("CLASH ab: ab; ON a, a, aa; WAY c", (23, letter)),
+            ("FREE ab: * ab 0", (11, "an arrow has one of the letters")),
         ):
             self.assertEqual(problem_of("PAPER", text), problem, text)
         self.assertEqual(
@@ -348,7 +355,8 @@ class Problems(unittest.TestCase):
             read_records("RECORDS a 0: ASK a PAPER 9999 OPEN | PAPER 0 OPEN * | PAPER 1 CLASH a; WAY a TAKE -")[2],
             (
                 (("ask", "a"), (
-                    (9999, ("open", ("a", (), ()), ("a", (), ()))), (0, ("open", ("a", ((None,),), (0,)), ("a", (), ()))),
+                    (9999, ("open", ("a", (), ()), ("a", (), ()))),
+                    (0, ("open", ("a", ((None,),), (0,)), ("a", (), ()))),
                     (1, ("clash", "a", (), ("a",))),
                 )), (("back", ""), ()),
             ),
@@ -387,7 +395,8 @@ class Next(unittest.TestCase):
 
     def test_point_189_texts_with_problems_of_other_points(self):
         for text in (
-            "SAMPLE ba: zz, a, a", "MACHINE aa: q 99; * zz 7", "MUST -: ENDS q, q; WAY zz", "RECORDS abcde 99: IN zzzzzzzzzzzzzzz",
+            "SAMPLE ba: zz, a, a", "MACHINE aa: q 99; * zz 7", "MUST -: ENDS q, q; WAY zz",
+            "RECORDS abcde 99: IN zzzzzzzzzzzzzzz",
             "OPEN a: a 0 | a 0", "NOT q: a; ON a, b, ccc; WAY -", "MACHINE ab: *; *", "CLASH a: b; WAY c",
         ):
             self.assertIn("the end", next_tokens(text))
@@ -416,7 +425,8 @@ class Next(unittest.TestCase):
             ["a word", '"IN"', '"OUT"', '"TAKE"', '"ASK"', '"RAISE"', '"PAPER"', '";"', "the end"],
         )
         self.assertEqual(
-            told(next_tokens, "a"), (0, 'expected "SAMPLE", "MACHINE", "MUST", "NOT", "CLASH", "FREE", "OPEN" or "RECORDS"'),
+            told(next_tokens, "a"),
+            (0, 'expected "SAMPLE", "MACHINE", "MUST", "NOT", "CLASH", "FREE", "OPEN" or "RECORDS"'),
         )
 
     def test_point_2_lists_are_new(self):
@@ -429,7 +439,8 @@ class Next(unittest.TestCase):
 class Wrong(unittest.TestCase):
     def test_points_179_and_188_texts_of_any_kind(self):
         for function in (next_tokens, *READERS.values()):
-            for odd in oddities.oddities() + [None, 0, 1, ("SAMPLE a:",), ["SAMPLE a:"], "SAMPLE a:\n", "\n", "a" * 20001]:
+            wrong = [None, 0, 1, ("SAMPLE a:",), ["SAMPLE a:"], "SAMPLE a:\n", "\n", "a" * 20001]
+            for odd in oddities.oddities() + wrong:
                 if type(odd) is str and len(odd) <= 20000 and "\n" not in odd:
                     self.assertIsInstance(told(function, odd)[0], int)
                 else:

@@ -62,7 +62,8 @@ def with_all_papers(desk):
     records = []
     for command, (words_in, words_out, asked, look) in zip(desk.journal(), moments(desk)):
         fresh = tuple(
-            (number, verdict_paper(desk.letters(), words_in, words_out, look, word)) for number, word in enumerate(asked)
+            (number, verdict_paper(desk.letters(), words_in, words_out, look, word)) for number,
+            word in enumerate(asked)
         )
         records.append((command, fresh))
     return tuple(records)
@@ -85,7 +86,8 @@ class Replayed(unittest.TestCase):
             ((("ask", "a"), ("ask", "a")), "asked"), ((("raise",),) * 13, "look"),
             (tuple(("in", word) for word in words[:13]), "many"), (tuple(("out", word) for word in words[:13]), "many"),
             (tuple(("ask", word) for word in words[:7]), "many"),
-            ((("ask", "a"), ("ask", "a"), ("back", "b")), "asked"), ((("ask", "a"), ("back", "b"), ("ask", "a")), "missing"),
+            ((("ask", "a"), ("ask", "a"), ("back", "b")), "asked"),
+            ((("ask", "a"), ("back", "b"), ("ask", "a")), "missing"),
             ((("raise",),) * 12 + (("in", "a"), ("raise",), ("in", "a")), "look"),
         ):
             for function in (replayed, fewest_papers, fewest_records):
@@ -186,7 +188,8 @@ class Right(unittest.TestCase):
                 deeds = [("raise",), ("in", "a"), ("out", "a"), ("ask", "a"), ("back", "a")] + [command[:-1] + ("aa",)]
                 changed += [ahead + ((deed, fresh),) + behind for deed in deeds if len(deed) > 1 or deed == ("raise",)]
                 for place, (number, paper) in enumerate(fresh):
-                    items = [fresh[:place] + fresh[place + 1:], fresh[:place] + fresh[place:place + 1] * 2 + fresh[place + 1:]]
+                    items = [fresh[:place] + fresh[place + 1:]]
+                    items.append(fresh[:place] + fresh[place:place + 1] * 2 + fresh[place + 1:])
                     items += [fresh[:place] + ((other, paper),) + fresh[place + 1:] for other in range(-1, 7)]
                     items += [
                         fresh[:place] + ((number, other),) + fresh[place + 1:] for other in chance.sample(papers, 1)
@@ -207,10 +210,13 @@ class Right(unittest.TestCase):
         records = desk.records()
         one, two = records[0][1][0][1], records[1][1][0][1]
         for fresh, good in (
-            (((1, two),), True), (((0, one), (1, two)), True), (((1, two), (0, one)), False), (((1, two), (1, two)), False),
-            (((0, one),), False), ((), False), (((1, two), (2, two)), False), (((True, two),), False), (((1.0, two),), False),
+            (((1, two),), True), (((0, one), (1, two)), True), (((1, two), (0, one)), False),
+            (((1, two), (1, two)), False),
+            (((0, one),), False), ((), False), (((1, two), (2, two)), False), (((True, two),), False),
+            (((1.0, two),), False),
             (((-1, two), (1, two)), False), (((1, one),), False), (((0, two), (1, two)), False), ([(1, two)], False),
-            (([1, two],), False), (((1, two, two),), False), (((1,),), False), (two, False), (((0, one), (0, one), (1, two)), False),
+            (([1, two],), False), (((1, two, two),), False), (((1,),), False), (two, False),
+            (((0, one), (0, one), (1, two)), False),
             (((False, one), (1, two)), False), ((("1", two),), False), (((10 ** 30, two),), False),
         ):
             self.assertIs(are_right("a", 0, (records[0], (("ask", "aa"), fresh))), good, fresh)
@@ -298,7 +304,8 @@ class Fewest(unittest.TestCase):
             least = [0] + [None] * len(stretch)
             for end in range(1, len(stretch) + 1):
                 least[end] = 1 + min(
-                    least[start] for start in range(end) if self.one_paper(letters, stretch[start:end], word) is not None
+                    least[start] for start in range(end)
+                    if self.one_paper(letters, stretch[start:end], word) is not None
                 )
             told.append(least[-1])
         return tuple(told)
@@ -328,7 +335,9 @@ class Fewest(unittest.TestCase):
 
     def test_point_202_no_records_bring_fewer(self):
         # All records with the same commands that leave papers out of those which bring each paper at each moment.
-        for journal in (EXAMPLE, EXAMPLE + (("back", "aaaaa"), ("raise",)), (("ask", "a"), ("in", "a"), ("raise",), ("in", ""))):
+        for journal in (
+            EXAMPLE, EXAMPLE + (("back", "aaaaa"), ("raise",)), (("ask", "a"), ("in", "a"), ("raise",), ("in", "")),
+        ):
             desk = carried_out("a", 0, journal)
             pool = [
                 {0: verdict_paper("a", words_in, words_out, look, asked[0])} if asked else {}

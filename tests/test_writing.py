@@ -88,7 +88,8 @@ class Writing(unittest.TestCase):
         text = "RECORDS ab 0: IN - RAISE PAPER 9999 MUST WAY a TAKE b"
         self.assertEqual(records_text("ab", 0, records), text)
         # More than 24 of them, in any sequence, right or not.
-        many = ((("out", "a"), ((7, ("clash", "", (), ("",))), (7, ("open", NONE, EVEN)), (0, ("must", (), ("",))))),) * 60
+        fresh = (7, ("clash", "", (), ("",))), (7, ("open", NONE, EVEN)), (0, ("must", (), ("",)))
+        many = ((("out", "a"), fresh),) * 60
         self.assertEqual(read_records(records_text("ab", 3, many)), ("ab", 3, many))
 
     def test_point_187_papers_that_the_library_returns(self):
@@ -115,7 +116,8 @@ class Writing(unittest.TestCase):
 
         for make in (
             lambda word: ("must", (), (word,)), lambda word: ("must", rows, ("", "a", word)),
-            lambda word: ("must not", word, rows, ("",)), lambda word: ("clash", "a", (("on", "a", word, "a"),), ("", "a")),
+            lambda word: ("must not", word, rows, ("",)),
+            lambda word: ("clash", "a", (("on", "a", word, "a"),), ("", "a")),
         ):
             ahead = len(texts.plain_paper("a", make("a"))) - 1
             for length, told in ((19999, None), (20000, None), (20001, "text"), (30000, "text")):
@@ -157,22 +159,26 @@ class Wrong(unittest.TestCase):
         way = ("",)
         found = [
             None, "", "must", (), ("must",), ("must", ()), ("must", way), ("must", (), way, ()), ["must", (), way],
-            ("Must", (), way), ("apart", NONE), ("must", (), ()), ("must", (), [""]), ("must", [], way), ("must", None, way),
+            ("Must", (), way), ("apart", NONE), ("must", (), ()), ("must", (), [""]), ("must", [], way),
+            ("must", None, way),
             ("must", (), ("c",)), ("must", (), (None,)), ("must", (), "a"), ("must", (("ends", "a"),), way),
             ("must", (("ends", "a", "b", "a"),), way), ("must", (("on", "a", "b"),), way),
             ("must", (("on", "a", "b", "c"),), way), ("must", (("on", "a", "b", "ab"),), way),
             ("must", (("on", "a", "b", ""),), way), ("must", (("on", "c", "b", "a"),), way),
             ("must", (("back", "a", "c", "a"),), way), ("must", (("seen", "a", "b"),), way),
-            ("must", (["ends", "a", "b"],), way), ("must", (("ends", 0, 1),), way), ("must", (("on", "a", "b", "a", "a"),), way),
+            ("must", (["ends", "a", "b"],), way), ("must", (("ends", 0, 1),), way),
+            ("must", (("on", "a", "b", "a", "a"),), way),
             ("must not", (), way), ("must not", "c", (), way), ("must not", None, (), way), ("must not", "a", (), ()),
             ("clash", "a", way), ("clash", "a", (), way, ()), ("clash", ("a",), (), way), ("free",), ("free", None),
             ("free", ("a", (), ())), ("free", EVEN, EVEN), ("free", chain("ab", 401)), ("free", list(EVEN)),
             ("open", EVEN), ("open", EVEN, ("abc", (), ())), ("open", ("a", (), ()), EVEN), ("open", EVEN, EVEN, EVEN),
-            ("opened", EVEN, EVEN), ("", NONE, NONE), ("open", EVEN, None), ("free", ("ab", ((True, None),), (0,))), ("open", EVEN, ("ab", ((0, 0),), (False,))),
+            ("opened", EVEN, EVEN), ("", NONE, NONE), ("open", EVEN, None), ("free", ("ab", ((True, None),), (0,))),
+            ("open", EVEN, ("ab", ((0, 0),), (False,))),
         ]
         for odd in oddities.oddities():
             found += [odd, (odd,), ("must", odd, way), ("must", (), odd), ("must", (odd,), way), ("must", (), (odd,))]
-            found += [("must not", odd, (), way), ("free", odd), ("open", odd, EVEN), ("open", EVEN, odd), (odd, (), way)]
+            found += [("must not", odd, (), way), ("free", odd), ("open", odd, EVEN), ("open", EVEN, odd)]
+            found += [(odd, (), way)]
             found += [("must", (("on", "a", "b", odd),), way), ("must", (("ends", odd, "b"),), way)]
             found += [("must", ((odd, "a", "b"),), way)]
         return found
@@ -191,11 +197,14 @@ class Wrong(unittest.TestCase):
         paper = ("must", (), ("",))
         right = (("ask", "a"), ((0, paper),))
         values = [
-            None, "", (right, None), [right], right, ((("ask", "a"),),), ((("ask", "a"), (), ()),), ((("ask", "a"), [],),),
+            None, "", (right, None), [right], right, ((("ask", "a"),),), ((("ask", "a"), (), ()),),
+            ((("ask", "a"), [],),),
             ((["ask", "a"], ()),), ((("ask", "c"), ()),), ((("in", "a" * 13), ()),), ((("ask", "a" * 101), ()),),
             ((("raise", "a"), ()),), ((("undo",), ()),), ((("ask", "a"), (paper,)),), ((("ask", "a"), ((0,),)),),
-            ((("ask", "a"), ((0, paper, paper),)),), ((("ask", "a"), ([0, paper],)),), ((("ask", "a"), ((-1, paper),)),),
-            ((("ask", "a"), ((10000, paper),)),), ((("ask", "a"), ((True, paper),)),), ((("ask", "a"), (("0", paper),)),),
+            ((("ask", "a"), ((0, paper, paper),)),), ((("ask", "a"), ([0, paper],)),),
+            ((("ask", "a"), ((-1, paper),)),),
+            ((("ask", "a"), ((10000, paper),)),), ((("ask", "a"), ((True, paper),)),),
+            ((("ask", "a"), (("0", paper),)),),
             ((("ask", "a"), ((0, ("free", EVEN)),)),), ((("ask", "a"), ((0, ("free", NONE)),)),), (["raise"],),
         ]
         values += [((("ask", "a"), ((0, other),)),) for other in self.papers()]

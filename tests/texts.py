@@ -225,7 +225,8 @@ class Problems:
             row = {}
             for place in range(0, len(arrows[at]), 2):
                 letter, number = arrows[at][place:place + 2]
-                self.note(len(letter[1]) != 1 or letter[1] not in self.letters, letter, 2, "an arrow has one of the letters")
+                strange = len(letter[1]) != 1 or letter[1] not in self.letters
+                self.note(strange, letter, 2, "an arrow has one of the letters")
                 self.note(place > 0 and letter[1] <= arrows[at][place - 2][1], letter, 3,
                           "the letters of a state do not ascend")
                 target = int(number[1])
@@ -374,7 +375,8 @@ def plain_machine(machine):
 def plain_records(letters, k, records):
     told = []
     for command, fresh in records:
-        told.append(" ".join([{"back": "TAKE"}.get(command[0], command[0].upper())] + list(map(word_text, command[1:]))))
+        name = {"back": "TAKE"}.get(command[0], command[0].upper())
+        told.append(" ".join([name] + list(map(word_text, command[1:]))))
         told += [f"PAPER {number} {paper_name(paper)} {content_text(paper)}" for number, paper in fresh]
     return head_text("RECORDS", f"{letters} {k}", " ".join(told))
 
