@@ -222,7 +222,8 @@ class Plain(unittest.TestCase):
 
     def test_points_2_and_8_a_parameter_with_one_thing_of_another_kind(self):
         tried = 0
-        for function, *arguments in CALLS:
+        made = [(journals.replayed, "a", 0, JOURNAL), (learning.Learner, "ab", 1), (desk.Desk, "ab", 1)]
+        for function, *arguments in CALLS + made:
             names = list(inspect.signature(function).parameters)
             for at, name in enumerate(names):
                 if name == "value" or function is records.are_right and name == "records":
